@@ -1,0 +1,1 @@
+"""Loopfoundry: loops made into overlapped code, with papers for every choice."""

@@ -1,0 +1,1 @@
+"""Covers of bodies by the patterns of a machine."""

@@ -1,0 +1,1 @@
+"""Shapes, patterns and machines."""

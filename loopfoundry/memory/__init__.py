@@ -1,0 +1,1 @@
+"""Rounds that meet in a cell, and what loads find."""

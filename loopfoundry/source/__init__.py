@@ -1,0 +1,1 @@
+"""Trees and bodies of loops."""

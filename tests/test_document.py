@@ -1,0 +1,100 @@
+"""The examples of the document, with the results that it shows."""
+
+import doctest
+import unittest
+
+from loopfoundry.base import numbers
+from loopfoundry.covers import covers, orders
+from loopfoundry.machine import machines, shapes
+from loopfoundry.memory import flows, meetings
+from loopfoundry.source import bodies, trees
+
+NUMBERS = """
+>>> [slot_of(-3, 4), rounded_up(-1, 6, 4), rounded_up(3, 0, 3), is_name("sum"), is_name("A")]
+[1, 2, 3, True, False]
+"""
+
+BODIES = """
+>>> [DOT.names, DOT.reads, DOT.operations, str(DOT)]
+[('mul', 'sum'), (('sum', 'mul', 0), ('sum', 'sum', 1)), ('mul', 'mul.0', 'mul.1', 'sum'), 'body of 2 statements, 4 nodes']
+>>> PAIRS.run(3, lambda operator, values: (operator, *values), lambda name, round: None, lambda array, cell: cell)
+({}, {('x', 0): ('f', -4), ('x', 1): ('f', -2), ('x', 2): ('f', ('f', -4))})
+>>> [PAIRS.shifted("x", 5).stores, PAIRS.scaled("x", -1).loads, PAIRS.tree("put.0"), levels(("op", "f", ("load", "x", 1, 0)))]
+[(('put', 'x', 1, 5),), (('put.0.0', 'x', -2, 4),), ('op', 'f', ('load', 'x', 2, -4)), 2]
+"""
+
+MEETINGS = """
+>>> met = Meetings((1, 10), (2, 0))
+>>> [list(met.each()), met.nearest, met.soonest, met.amount, Meetings((1, 10), (2, 0), rounds=7).distance, Meetings((1, 10), (2, 0), low=1).paper]
+[[(0, 5), (2, 6), (4, 7), (6, 8), (8, 9), (10, 10)], (10, 10), (0, 5), 6, 4, ('nearest', 8, 9)]
+>>> [list(met.peeled(4).each()), list(met.unrolled(2, 0, 1).each()), Meetings((2, 0), (1, 10)).amount, Meetings((4, 0), (6, 3)).paper]
+[[(0, 3), (2, 4), (4, 5), (6, 6)], [(0, 2), (2, 3), (4, 4)], None, ('modulus', 2)]
+>>> is_meetings_paper(Meetings((3, 0), (-2, 1)), ("gap", 1, -1))
+True
+"""
+
+FLOWS = """
+>>> [flows(PAIRS), flows(PAIRS, rounds=3), settled(PAIRS)]
+[(('anti', 'put', 'put.0.0', 0), ('flow', 'put', 'put.0.0', 1)), (('flow', 'put', 'put.0.0', 2),), 5]
+>>> [found_by(PAIRS, "put.0.0", 3), found_by(PAIRS, "put.0.0", 5), writer_of(PAIRS, "x", 6)]
+[('put', 2), None, ('put', 6)]
+"""
+
+MACHINES = """
+>>> [str(CHIP), CHIP.names, CHIP.pattern("mulld"), CHIP.index_of("get"), CHIP.copies("alu"), CHIP.reload, CHIP.with_cost("get", 3).lines[7]]
+['machine of 6 patterns, 2 units', ('add', 'mul', 'mulld', 'get', 'f', 'put'), ('mulld', ('op', 'mul', ('load',), ('hole',)), 3, 2, (('alu', 1), ('mem', 0))), 3, 1, (2, (('mem', 0),)), 'pattern get 2 3 mem 0 : @']
+>>> [holes(read_shape("= add ( _ @ )")), loads(read_shape("= add ( _ @ )")), fits(read_shape("mul ( @ _ )"), DOT["mul"][2]), fits(read_shape("= _"), PAIRS["put"])]
+[((0, 0),), ((0, 1),), True, True]
+"""
+
+COVERS = """
+>>> [fitting(DOT, CHIP)["mul"], wants(DOT, CHIP, "mul", "mulld"), count_covers(DOT, CHIP), covers_by_cost(DOT, CHIP), least_table(DOT, CHIP)]
+[('mul', 'mulld'), ('mul.1',), 2, {4: 1, 5: 1}, {'mul': 3, 'mul.0': 1, 'mul.1': 1, 'sum': 1}]
+>>> [cheapest(DOT, CHIP), cover_row(DOT, CHIP, cover_at(DOT, CHIP, 0)), number_of(DOT, CHIP, cheapest(DOT, CHIP))]
+[{'mul': 'mulld', 'mul.1': 'get', 'sum': 'add'}, (1, 3, 3, 0), 1]
+>>> [open_nodes(DOT, CHIP, {"mul": "mul"}), open_cost(DOT, CHIP, {"mul": "mul"}), margin(DOT, CHIP, "mul.0", "get"), pattern_margin(DOT, CHIP, "get"), behind(DOT, CHIP), hurried(DOT, CHIP.without_pattern("add"))]
+[('mul.0', 'mul.1', 'sum'), 5, 1, 0, 1, ('stuck', 'sum')]
+>>> [is_cost_paper(DOT, CHIP, 3, ("beyond", least_table(DOT, CHIP))), is_table(DOT, CHIP, {}), cover_paper(PAIRS, CHIP), cheapest(PAIRS, CHIP.without_pattern("put"))]
+[True, False, ('covered', {'put': 'put', 'put.0': 'f', 'put.0.0': 'get'}, {'put': 3, 'put.0': 2, 'put.0.0': 1}), None]
+"""
+
+SETUP = """
+>>> DOT = Body(("set", "mul", ("op", "mul", ("load", "a", 1, 0), ("load", "b", 1, 0))), ("set", "sum", ("op", "add", ("at", "sum", 1), ("at", "mul", 0))))
+>>> PAIRS = Body(("store", "put", "x", 1, 0, ("op", "f", ("load", "x", 2, -4))))
+>>> CHIP = Machine.from_lines("unit alu 1", "unit mem 1", "save 1 mem 0", "reload 2 mem 0", "pattern add 1 1 alu 0 : add ( _ _ )", "pattern mul 2 2 alu 0 : mul ( _ _ )", "pattern mulld 3 2 alu 1 mem 0 : mul ( @ _ )", "pattern get 2 1 mem 0 : @", "pattern f 1 1 alu 0 : f ( _ )", "pattern put 1 1 mem 0 : = _")
+"""
+
+
+class DocumentTest(unittest.TestCase):
+    def check(self, text, *modules):
+        names = {"Body": bodies.Body, "Machine": machines.Machine}
+        for module in modules:
+            names.update({name: worth for name, worth in vars(module).items() if not name.startswith("_")})
+        example = doctest.DocTestParser().get_doctest(SETUP + text, names, "document", None, 0)
+        runner = doctest.DocTestRunner(verbose=False)
+        told = []
+        runner.run(example, out=told.append)
+        self.assertEqual(runner.failures, 0, "".join(told))
+        self.assertGreater(runner.tries, 3)
+
+    def test_numbers(self):
+        self.check(NUMBERS, numbers)
+
+    def test_bodies(self):
+        self.check(BODIES, trees, bodies)
+
+    def test_meetings(self):
+        self.check(MEETINGS, meetings)
+
+    def test_flows(self):
+        self.check(FLOWS, flows)
+
+    def test_machines(self):
+        self.check(MACHINES, machines, shapes)
+
+    def test_covers(self):
+        self.check(COVERS, covers, orders)
+
+
+if __name__ == "__main__":
+    unittest.main()

@@ -1,0 +1,367 @@
+"""The package keeps to its subset of Python, as far as its files alone can show."""
+
+import ast
+import builtins
+import io
+import re
+import tokenize
+import unittest
+from pathlib import Path
+
+ROOT = Path(__file__).resolve().parent.parent
+PACKAGE = ROOT / "loopfoundry"
+
+BUILTINS = set(
+    "len range enumerate zip min max sum abs sorted reversed int str bool bytes list tuple dict set frozenset isinstance"
+    " ord repr any all divmod iter next map super property classmethod staticmethod NotImplemented Exception ValueError"
+    " TypeError KeyError IndexError LookupError ZeroDivisionError ArithmeticError OverflowError RuntimeError"
+    " NotImplementedError AttributeError StopIteration object".split()
+)
+METHODS = set(
+    "append clear copy count endswith extend find get index insert isalnum isalpha isdigit islower isspace isupper items"
+    " join keys ljust lower lstrip partition pop remove replace reverse rfind rjust rpartition rsplit rstrip setdefault"
+    " split splitlines startswith strip update upper values zfill bit_length add discard".split()
+)
+STATEMENTS = (
+    ast.Assign, ast.AugAssign, ast.AnnAssign, ast.If, ast.While, ast.For, ast.Return, ast.Break, ast.Continue, ast.Pass,
+    ast.Raise, ast.Assert, ast.Delete, ast.FunctionDef, ast.ClassDef, ast.Expr, ast.ImportFrom,
+)
+DUNDERS = set(
+    "__init__ __eq__ __str__ __repr__ __len__ __iter__ __contains__ __getitem__ __bool__ __add__ __or__ __and__".split()
+)
+BARRED = set(
+    "register mro elements open input law version_info with_traceback add_note attrgetter breakpoint builtins compile"
+    " copyright credits delattr dir eval exec exit gc getattr globals hasattr help id importlib license locals"
+    " methodcaller os quit setattr super type vars sys".split()
+)
+BARRED_WORDS = set(
+    "type typing typing_extensions enum Enum IntEnum StrEnum Flag IntFlag Generic Protocol ABC ABCMeta namedtuple"
+    " NamedTuple TypedDict TYPE_CHECKING abstractmethod dataclass overload contextmanager".split()
+)
+LIBRARY = {
+    "heapq": {"heappush", "heappop", "heapify", "heapreplace", "heappushpop"},
+    "math": {"gcd", "lcm", "isqrt", "comb", "perm", "factorial"},
+}
+PYTHON_NAMES = set(dir(builtins))
+
+
+def files():
+    return sorted(path for path in PACKAGE.rglob("*") if path.is_file() and "__pycache__" not in path.parts)
+
+
+def module_of(path):
+    parts = path.relative_to(ROOT).with_suffix("").parts
+    return ".".join(parts[:-1] if parts[-1] == "__init__" else parts)
+
+
+TREES = {path: ast.parse(path.read_text(encoding="utf-8")) for path in files() if path.suffix == ".py"}
+
+
+def walk(kind):
+    for path, tree in TREES.items():
+        for node in ast.walk(tree):
+            if isinstance(node, kind):
+                yield path, node
+
+
+def functions():
+    return walk(ast.FunctionDef)
+
+
+def defined(tree):
+    """The names that a module binds itself."""
+    names = []
+    for node in tree.body:
+        if isinstance(node, (ast.FunctionDef, ast.ClassDef)):
+            names.append(node.name)
+        elif isinstance(node, ast.Assign):
+            names += [target.id for target in node.targets]
+    return names
+
+
+def imported(tree):
+    return [alias.name for node in tree.body if isinstance(node, ast.ImportFrom) for alias in node.names]
+
+
+def locals_of(function):
+    """The parameters and the variables that a function assigns."""
+    names = {part.arg for part in ast.walk(function.args) if isinstance(part, ast.arg)}
+    for node in ast.walk(function):
+        if isinstance(node, ast.Name) and isinstance(node.ctx, (ast.Store, ast.Del)):
+            names.add(node.id)
+        if isinstance(node, ast.arg):
+            names.add(node.arg)
+    return names
+
+
+def own_methods():
+    return {node.name for _, row in walk(ast.ClassDef) for node in row.body if isinstance(node, ast.FunctionDef)}
+
+
+def is_docstring(node):
+    return isinstance(node, ast.Expr) and isinstance(node.value, ast.Constant) and isinstance(node.value.value, str)
+
+
+class FilesTest(unittest.TestCase):
+    def test_files(self):
+        self.assertLessEqual(len(files()), 100)
+        for path in files():
+            self.assertEqual(path.suffix, ".py", path)
+            self.assertRegex(path.stem, r"^(__init__|[a-z][a-z0-9_]*)$")
+            self.assertNotIn(path.stem, PYTHON_NAMES | BARRED_WORDS)
+            self.assertFalse(path.with_suffix("").is_dir(), path)
+            self.assertTrue((path.parent / "__init__.py").is_file(), path)
+        self.assertGreater(len(files()), 10)
+
+    def test_characters_and_sizes(self):
+        for path in TREES:
+            text = path.read_text(encoding="utf-8")
+            self.assertRegex(text, r"\A[ -~\n]*\Z", path)
+            lines = text.split("\n")
+            self.assertLessEqual(len(lines) - 1, 399, path)
+            self.assertLessEqual(max(map(len, lines)), 120, path)
+            self.assertNotIn("_wall", text)
+        for path, node in functions():
+            first = min([node.lineno, *[row.lineno for row in node.decorator_list]])
+            self.assertLessEqual(node.end_lineno - first + 1, 40, (path, node.name))
+
+    def test_words(self):
+        for path in TREES:
+            text = path.read_text(encoding="utf-8")
+            for token in tokenize.generate_tokens(io.StringIO(text).readline):
+                if token.type == tokenize.NAME:
+                    self.assertNotIn(token.string, BARRED_WORDS, path)
+
+
+class ImportsTest(unittest.TestCase):
+    def test_imports(self):
+        modules = {module_of(path): tree for path, tree in TREES.items()}
+        self.assertFalse([path for path, _ in walk(ast.Import)])
+        for path, node in walk(ast.ImportFrom):
+            self.assertEqual(node.level, 0)
+            self.assertIn(node, TREES[path].body)
+            names = [alias.name for alias in node.names]
+            self.assertFalse([alias for alias in node.names if alias.asname], path)
+            if node.module in LIBRARY:
+                self.assertLessEqual(set(names), LIBRARY[node.module])
+            else:
+                self.assertIn(node.module, modules)
+                self.assertLessEqual(set(names), set(defined(modules[node.module])), (path, node.module))
+
+    def test_no_import_is_unused(self):
+        for path, tree in TREES.items():
+            used = {node.id for node in ast.walk(tree) if isinstance(node, ast.Name)}
+            self.assertLessEqual(set(imported(tree)), used, path)
+
+    def test_no_circle(self):
+        needs = {}
+        for path, tree in TREES.items():
+            rows = [node.module for node in tree.body if isinstance(node, ast.ImportFrom)]
+            needs[module_of(path)] = [row for row in rows if row not in LIBRARY]
+
+        def reach(module, seen):
+            for other in needs[module]:
+                self.assertNotIn(other, seen)
+                reach(other, [*seen, other])
+
+        for module in needs:
+            reach(module, [module])
+
+    def test_one_binding(self):
+        for path, tree in TREES.items():
+            names = defined(tree) + imported(tree)
+            self.assertEqual(len(set(names)), len(names), path)
+            barred = set(imported(tree)) | {node.name for node in tree.body if isinstance(node, ast.ClassDef)}
+            for node in ast.walk(tree):
+                if isinstance(node, (ast.FunctionDef, ast.Lambda)):
+                    self.assertFalse(locals_of(node) & barred, (path, getattr(node, "name", "lambda")))
+
+
+class StatementsTest(unittest.TestCase):
+    def test_module_level(self):
+        for path, tree in TREES.items():
+            for place, node in enumerate(tree.body):
+                if place == 0 and is_docstring(node):
+                    continue
+                self.assertIsInstance(node, (ast.ImportFrom, ast.FunctionDef, ast.ClassDef, ast.Assign), path)
+                if isinstance(node, ast.Assign):
+                    self.assertEqual(len(node.targets), 1)
+                    self.assertIsInstance(node.targets[0], ast.Name)
+                    for part in ast.walk(node.value):
+                        self.assertNotIsInstance(part, (ast.Call, ast.comprehension, ast.Lambda, ast.Set))
+
+    def test_statements(self):
+        for path, node in walk(ast.stmt):
+            self.assertIsInstance(node, STATEMENTS, (path, node.lineno))
+        for path, node in walk(ast.Expr):
+            fine = is_docstring(node) or isinstance(node.value, (ast.Call, ast.Yield, ast.YieldFrom))
+            self.assertTrue(fine, (path, node.lineno))
+        for path, node in walk(ast.arg):
+            self.assertIsNone(node.annotation)
+        for path, node in functions():
+            self.assertIsNone(node.returns)
+            for row in node.decorator_list:
+                self.assertIsInstance(row, ast.Name)
+                self.assertIn(row.id, ("property", "classmethod", "staticmethod"))
+
+    def test_expressions(self):
+        for path, node in walk(ast.AST):
+            where = (path, getattr(node, "lineno", None))
+            self.assertNotIsInstance(node, (ast.GeneratorExp, ast.Div, ast.MatMult, ast.Await, ast.NamedExpr), where)
+            if isinstance(node, ast.Constant):
+                self.assertNotIsInstance(node.value, (float, complex, bytes), where)
+                if isinstance(node.value, str):
+                    self.assertNotIn("%", node.value, where)
+                    self.assertFalse(re.search(r"\._{1,2}$", node.value), where)
+                    self.assertFalse(node.value.startswith("__"), where)
+            if isinstance(node, ast.Pow):
+                continue
+            if isinstance(node, ast.BinOp) and isinstance(node.op, ast.Pow):
+                self.assertIsInstance(node.right, ast.Constant, where)
+                self.assertLessEqual(node.right.value, 64, where)
+            if isinstance(node, ast.Compare):
+                for op, right in zip(node.ops, node.comparators):
+                    if isinstance(op, (ast.Is, ast.IsNot)):
+                        self.assertIsInstance(right, ast.Constant, where)
+                        self.assertIn(right.value, (None, True, False), where)
+            if isinstance(node, (ast.Set, ast.SetComp)):
+                self.fail(("no set literal is used", where))
+
+    def test_sets_stand_where_they_may(self):
+        for path, tree in TREES.items():
+            fine = set()
+            for node in ast.walk(tree):
+                if isinstance(node, ast.Call) and isinstance(node.func, ast.Name) and node.func.id in ("len", "sorted"):
+                    fine.update(id(argument) for argument in node.args if not node.keywords)
+            for node in ast.walk(tree):
+                if isinstance(node, ast.Call) and isinstance(node.func, ast.Name) and node.func.id == "set":
+                    self.assertIn(id(node), fine, (path, node.lineno))
+
+    def test_iterators_stand_where_they_may(self):
+        at_once = {"list", "tuple", "dict", "sorted", "sum", "any", "all", "enumerate", "zip", "min", "max", "len"}
+        for path, tree in TREES.items():
+            fine = set()
+            for node in ast.walk(tree):
+                if isinstance(node, (ast.For, ast.comprehension)):
+                    fine.add(id(node.iter))
+                if isinstance(node, ast.Call) and isinstance(node.func, ast.Name) and node.func.id in at_once:
+                    fine.update(id(argument) for argument in node.args[:1])
+            for node in ast.walk(tree):
+                if isinstance(node, ast.Call):
+                    name = node.func.id if isinstance(node.func, ast.Name) else getattr(node.func, "attr", "")
+                    if name in ("zip", "enumerate", "reversed", "range", "items", "keys", "values"):
+                        self.assertIn(id(node), fine, (path, node.lineno))
+
+
+class NamesTest(unittest.TestCase):
+    def test_names(self):
+        for path, tree in TREES.items():
+            known = set(defined(tree)) | set(imported(tree)) | BUILTINS
+            for node in ast.walk(tree):
+                if isinstance(node, ast.FunctionDef):
+                    known |= locals_of(node)
+                    self.assertNotIn(node.name, BARRED)
+                    self.assertFalse(locals_of(node) & (PYTHON_NAMES | BARRED), (path, node.name))
+                if isinstance(node, ast.Lambda):
+                    known |= locals_of(node)
+            for node in ast.walk(tree):
+                if isinstance(node, ast.Name):
+                    self.assertIn(node.id, known, (path, node.lineno))
+                    self.assertRegex(node.id, r"^(_|_?[A-Za-z][A-Za-z0-9_]*)$")
+                    self.assertFalse(node.id == "_" and isinstance(node.ctx, ast.Load), (path, node.lineno))
+            for name in defined(tree):
+                self.assertNotIn(name, PYTHON_NAMES | BARRED)
+
+    def test_calls_of_builtins(self):
+        allowed = {"sorted": {"key", "reverse"}, "min": {"key", "default"}, "max": {"key", "default"}}
+        allowed.update({"sum": {"start"}, "enumerate": {"start"}, "zip": {"strict"}})
+        for path, node in walk(ast.Call):
+            if isinstance(node.func, ast.Name) and node.func.id in PYTHON_NAMES:
+                given = {keyword.arg for keyword in node.keywords}
+                self.assertLessEqual(given, allowed.get(node.func.id, set()), (path, node.lineno))
+
+    def test_builtins_are_called_and_not_kept(self):
+        values = {"property", "classmethod", "staticmethod", "int", "str", "bool", "dict", "list", "tuple"}
+        for path, tree in TREES.items():
+            called = {id(node.func) for node in ast.walk(tree) if isinstance(node, ast.Call)}
+            bases = {id(base) for node in ast.walk(tree) if isinstance(node, ast.ClassDef) for base in node.bases}
+            for node in ast.walk(tree):
+                if isinstance(node, ast.Name) and node.id in BUILTINS - values:
+                    self.assertTrue(id(node) in called or id(node) in bases, (path, node.lineno, node.id))
+
+    def test_methods(self):
+        own = own_methods()
+        for path, node in walk(ast.Call):
+            if isinstance(node.func, ast.Attribute):
+                self.assertIn(node.func.attr, METHODS | own, (path, node.lineno))
+                if node.func.attr in METHODS:
+                    self.assertFalse(node.keywords, (path, node.lineno))
+        for path, node in functions():
+            if node.name.startswith("__"):
+                self.assertIn(node.name, DUNDERS)
+
+    def test_attributes(self):
+        assigned = {node.attr for _, node in walk(ast.Attribute) if isinstance(node.ctx, ast.Store)}
+        for path, node in walk(ast.Attribute):
+            self.assertNotIn(node.attr, ("format", "format_map", "mro", "args", "__class__"))
+            if isinstance(node.ctx, ast.Load):
+                self.assertIn(node.attr, assigned | own_methods() | METHODS, (path, node.lineno))
+            else:
+                self.assertIsInstance(node.value, ast.Name)
+                self.assertEqual(node.value.id, "self")
+
+
+class ClassesTest(unittest.TestCase):
+    def test_classes(self):
+        for path, node in walk(ast.ClassDef):
+            self.assertIn(node, TREES[path].body)
+            self.assertFalse(node.decorator_list or node.keywords)
+            names = [row.name for row in node.body if isinstance(row, ast.FunctionDef)]
+            self.assertEqual(len(set(names)), len(names), path)
+            for row in node.body:
+                self.assertTrue(isinstance(row, ast.FunctionDef) or is_docstring(row), (path, node.name))
+            if "__getitem__" in names:
+                self.assertIn("__iter__", names)
+
+    def test_properties_only_tell(self):
+        for path, node in functions():
+            if [row for row in node.decorator_list if row.id == "property"]:
+                rows = [row for row in node.body if not is_docstring(row)]
+                self.assertEqual(len(rows), 1, (path, node.name))
+                self.assertIsInstance(rows[0], ast.Return)
+                for part in ast.walk(rows[0]):
+                    if isinstance(part, ast.Call):
+                        self.assertIn(part.func.id, ("dict",), (path, node.name))
+
+    def test_an_iterator_is_one_statement(self):
+        for path, node in functions():
+            if node.name == "__iter__":
+                self.assertEqual(len(node.body), 1)
+                self.assertRegex(ast.unparse(node.body[0]), r"^return iter\(self\._?[a-z]+\)$")
+            if node.name == "__len__":
+                self.assertRegex(ast.unparse(node.body[-1]), r"^return len\(self\._?[a-z]+\)$")
+
+    def test_attributes_and_methods_have_different_names(self):
+        for path, node in walk(ast.ClassDef):
+            methods = {row.name for row in node.body if isinstance(row, ast.FunctionDef)}
+            stored = {
+                part.attr for part in ast.walk(node) if isinstance(part, ast.Attribute) and isinstance(part.ctx, ast.Store)
+            }
+            self.assertFalse(methods & stored, (path, node.name))
+
+    def test_generators(self):
+        generators = []
+        for path, node in functions():
+            if any(isinstance(part, (ast.Yield, ast.YieldFrom)) for part in ast.walk(node)):
+                generators.append(node.name)
+                self.assertNotIn(node.name, METHODS)
+                for part in ast.walk(node):
+                    if isinstance(part, ast.Return):
+                        self.assertIsNone(part.value)
+        names = [node.name for _, node in functions()]
+        for name in generators:
+            self.assertEqual(names.count(name), 1)
+
+
+if __name__ == "__main__":
+    unittest.main()
