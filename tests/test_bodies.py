@@ -364,6 +364,19 @@ class ChangedBodiesTest(unittest.TestCase):
             self.assertEqual(body.shifted(array, 0), body)
             self.assertEqual(body.scaled(array, 1), body)
 
+    def test_one_name_for_several_things(self):
+        body = Body(
+            ("set", "x", ("op", "x", ("at", "x", 1), ("load", "x", 1, 0))),
+            ("store", "y", "y", 1, 0, ("op", "y", ("at", "x", 2), ("load", "y", 2, -5))),
+        )
+        self.assertEqual(body.shifted("x", 3)["x"], ("set", "x", ("op", "x", ("at", "x", 1), ("load", "x", 1, 3))))
+        self.assertEqual(body.shifted("x", 3)["y"], body["y"])
+        self.assertEqual(body.scaled("y", 2)["y"][3:5], (2, 0))
+        self.assertEqual(body.scaled("y", 2)["x"], body["x"])
+        self.assertEqual(body.renamed({"x": "z"}).reads, (("y", "z", 2), ("z", "z", 1)))
+        self.assertEqual(body.renamed({"x": "z"}).arrays, ("x", "y"))
+        self.assertEqual(body.renamed({}, arrays={"x": "z"}).reads, body.reads)
+
     def test_moved_too_far(self):
         body = Body(
             ("store", "b", "x", 3, 7, ("op", "f", ("load", "x", 2, -5), ("load", "y", 9, 9))),

@@ -662,6 +662,13 @@ class WrongArgumentsTest(unittest.TestCase):
                 table = {**covered[2], node: covered[2][node] + change}
                 is_right = World(DOT, CHIP).is_table(table) and table["mul"] + table["sum"] == 4
                 self.assertIs(is_cover_paper(DOT, CHIP, ("covered", covered[1], table)), is_right)
+        for table in ({**covered[2], "zz": 0}, {**covered[2], 5: 0}, {**covered[2], None: 0}, {**covered[2], "mul.2": 1}):
+            self.assertIs(is_table(DOT, CHIP, table), False)
+            self.assertIs(is_cover_paper(DOT, CHIP, ("covered", covered[1], table)), False)
+        self.assertIs(is_cover_paper(DOT, CHIP, ("covered", covered[1], covered[1], covered[2])), False)
+        self.assertIs(is_cover_paper(DOT, CHIP.without_pattern("add"), ("bare", bare[1], bare[1])), False)
+        self.assertIs(is_cost_paper(DOT, CHIP, 3, ("Beyond", beyond[1])), False)
+        self.assertIs(is_cost_paper(DOT, CHIP, 4, ("Within", within[1])), False)
         true_one = {**covered[2], "mul.0": True}
         self.assertIs(is_table(DOT, CHIP, true_one), False)
 

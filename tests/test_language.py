@@ -289,6 +289,15 @@ class NamesTest(unittest.TestCase):
                 if isinstance(node, ast.Name) and node.id in BUILTINS - values:
                     self.assertTrue(id(node) in called or id(node) in bases, (path, node.lineno, node.id))
 
+    def test_behind_a_star_stand_only_plain_things(self):
+        plain = (ast.Name, ast.Attribute, ast.Constant, ast.List, ast.Tuple, ast.Dict, ast.Starred, ast.expr_context)
+        for path, node in walk(ast.Call):
+            starred = [place for place, argument in enumerate(node.args) if isinstance(argument, ast.Starred)]
+            if starred:
+                behind = node.args[starred[0] :] + [keyword.value for keyword in node.keywords]
+                for part in [part for row in behind for part in ast.walk(row)]:
+                    self.assertIsInstance(part, plain, (path, node.lineno))
+
     def test_methods(self):
         own = own_methods()
         for path, node in walk(ast.Call):

@@ -266,6 +266,9 @@ class LinesTest(unittest.TestCase):
             "pattern p 1 0 : f ( _ _ _ _ )",
             "pattern p 1 0 : = = _",
             "machine",
+            "patterns p 1 0 : @",
+            "saves p 1 0 : @",
+            "p 1 0 : @",
         ):
             self.assertEqual(refused(self, ParseError, Machine.from_lines, line).line, 0, line)
             told = refused(self, ParseError, Machine.of_lines, ("unit u 1", "unit v 2", good, line, "nothing"))
@@ -284,6 +287,10 @@ class LinesTest(unittest.TestCase):
             told = refused(self, ParseError, Machine.from_lines, line, "pattern p 1 0 : @", other, other, "x")
             self.assertEqual(told.line, 2)
         self.assertEqual(refused(self, ParseError, Machine.from_lines, "save 1", "x", "save 1").line, 1)
+
+    def test_a_pattern_may_have_the_name_of_a_unit(self):
+        machine = Machine.from_lines("unit u 1", "pattern u 1 0 u 0 : u ( )", "unit save 1", "save 1 save 0")
+        self.assertEqual((machine.names, machine.units), (("u",), {"save": 1, "u": 1}))
 
     def test_lines_of_no_machine(self):
         line = "pattern p 1 0 : @"

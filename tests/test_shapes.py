@@ -111,6 +111,8 @@ class ShapesTest(unittest.TestCase):
     def test_hand_made_fits(self):
         self.assertIs(fits(HOLE, ("at", "a", 0)), True)
         self.assertIs(fits(LOAD, ("at", "a", 0)), False)
+        self.assertIs(fits(("op", "a", HOLE, HOLE), LEAF), False)
+        self.assertIs(fits(("op", "a", HOLE), ("at", "a", 0)), False)
         self.assertIs(fits(("op", "f"), ("op", "f")), True)
         self.assertIs(fits(("op", "f"), ("op", "f", LEAF)), False)
         self.assertIs(fits(("op", "f", HOLE), ("op", "g", LEAF)), False)

@@ -100,6 +100,8 @@ class TreesTest(unittest.TestCase):
             ("set", "a", chain(4, LEAF)),
             ["set", "a", LEAF],
             ("put", "a", LEAF),
+            ("put", "a", "x", 1, 0, LEAF),
+            ("set", "a", "x", 1, 0, LEAF),
             ("store", "a", "x", 0, 0, LEAF),
             ("store", "a", "x", False, 0, LEAF),
             ("store", "a", "x", True, 0, LEAF),

@@ -64,6 +64,11 @@ def text_of_uses(uses):
     return "".join([f" {unit} {offset}" for unit, offset in uses])
 
 
+def line_of_move(kind, move):
+    """The line of the table of saves, or of that of reloads."""
+    return f"{kind} {move[0]}{text_of_uses(move[1])}"
+
+
 def line_of_pattern(pattern):
     """The line of a pattern."""
     name, shape, ticks, cost, uses = pattern
@@ -116,9 +121,10 @@ class Machine:
         self._units = {unit: units[unit] for unit in sorted(units)}
         self._patterns = patterns
         self._names = tuple([pattern[0] for pattern in patterns])
-        self._moves = (save, reload)
+        self._save = save
+        self._reload = reload
         unit_lines = [f"unit {unit} {many}" for unit, many in self._units.items()]
-        move_lines = [f"{kind} {move[0]}{text_of_uses(move[1])}" for kind, move in zip(MOVES, self._moves)]
+        move_lines = [line_of_move("save", save), line_of_move("reload", reload)]
         self._lines = tuple(unit_lines + move_lines + [line_of_pattern(pattern) for pattern in patterns])
 
     @classmethod
@@ -168,11 +174,11 @@ class Machine:
 
     @property
     def save(self):
-        return self._moves[0]
+        return self._save
 
     @property
     def reload(self):
-        return self._moves[1]
+        return self._reload
 
     @property
     def lines(self):
@@ -193,7 +199,8 @@ class Machine:
             isinstance(other, Machine)
             and self._units == other._units
             and self._patterns == other._patterns
-            and self._moves == other._moves
+            and self._save == other._save
+            and self._reload == other._reload
         )
 
     def __str__(self):
@@ -244,12 +251,12 @@ class Machine:
 
     def with_units(self, units):
         """The machine with other units."""
-        return Machine(units, *self._patterns, save=self._moves[0], reload=self._moves[1])
+        return Machine(units, *self._patterns, save=self._save, reload=self._reload)
 
     def with_moves(self, *, save=None, reload=None):
         """The machine with other tables of saves or reloads; None stands for the same one."""
-        new_save = self._moves[0] if save is None else save
-        new_reload = self._moves[1] if reload is None else reload
+        new_save = self._save if save is None else save
+        new_reload = self._reload if reload is None else reload
         return Machine(self._units, *self._patterns, save=new_save, reload=new_reload)
 
     def renamed(self, names):
@@ -263,7 +270,7 @@ class Machine:
 
     def _with(self, rows):
         """The machine with other patterns."""
-        return Machine(self._units, *rows, save=self._moves[0], reload=self._moves[1])
+        return Machine(self._units, *rows, save=self._save, reload=self._reload)
 
 
 def sorted_names(rows):

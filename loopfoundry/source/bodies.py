@@ -21,13 +21,13 @@ def is_body(statements):
 
 
 def working_nodes(statements):
-    """The ascending pairs of the operation and the tree, or store, of each working node."""
-    rows = []
+    """A dict from the operation of each working node to its tree, or its whole store."""
+    found = {}
     for statement in statements:
         for path, node in walked_statement(statement):
             if node[0] != "at":
-                rows.append((text_at(statement[1], path), node))
-    return sorted(rows, key=lambda row: row[0])
+                found[text_at(statement[1], path)] = node
+    return {text: found[text] for text in sorted(found)}
 
 
 def has_good_reads(statements):
@@ -152,7 +152,7 @@ class Body:
         self._statements = statements
         self._rows = {statement[1]: statement for statement in statements}
         self._names = tuple(self._rows)
-        self._working = dict(working_nodes(statements))
+        self._working = working_nodes(statements)
         self._operations = tuple(self._working)
         leaves = list(self._working.items())
         self._loads = tuple([(text, *node[1:]) for text, node in leaves if node[0] == "load"])
