@@ -5,8 +5,13 @@ import unittest
 
 from loopfoundry.base import numbers
 from loopfoundry.covers import covers, orders
+from loopfoundry.few import points
+from loopfoundry.files import lives, turning
+from loopfoundry.jobs import jobs, rewrites, runs
+from loopfoundry.jobs import orders as job_orders
 from loopfoundry.machine import machines, shapes
 from loopfoundry.memory import flows, meetings
+from loopfoundry.search import frontier, ways
 from loopfoundry.source import bodies, trees
 
 NUMBERS = """
@@ -58,6 +63,61 @@ COVERS = """
 [True, False, ('covered', {'put': 'put', 'put.0': 'f', 'put.0.0': 'get'}, {'put': 3, 'put.0': 2, 'put.0.0': 1}), None]
 """
 
+JOBS = """
+>>> ONES = Machine.from_lines("pattern get 2 1 : @", "pattern neg 1 1 : neg ( _ )", "pattern put 1 1 : = _")
+>>> COPY = Body(("store", "put", "x", 1, 0, ("load", "x", 1, 0)), ("set", "y", ("op", "neg", ("load", "x", 1, 0))))
+>>> job = Job(COPY, ONES, {"put": "put", "put.0": "get", "y": "neg", "y.0": "get"})
+>>> [job.arcs, job.operands("y"), job.loaded("y.0"), job.above("y.0"), str(job)]
+[(('put', 'y.0', 1, 0), ('put.0', 'put', 0, 0), ('put.0', 'put', 2, 0), ('y.0', 'y', 2, 0)), (('y.0', 0),), ('y.0',), 'y', 'job of 4 operations, 4 arcs']
+>>> least_wrong(job, 2, {"put": 2, "put.0": 0, "y": 2, "y.0": 0})
+(1, (0, 'y.0', 0, 0, None))
+>>> FAR = Job(Body(("store", "put", "x", 1, 0, ("op", "neg", ("load", "x", 2, -10 ** 17)))), ONES, {"put": "put", "put.0": "neg", "put.0.0": "get"})
+>>> [FAR.arcs, least_wrong(FAR, 1, {"put": 3, "put.0": 2, "put.0.0": 0})]
+[(('put', 'put.0.0', 1, 1), ('put.0', 'put', 1, 0), ('put.0.0', 'put', 0, 0), ('put.0.0', 'put.0', 2, 0)), (99999999999999998, (99999999999999997, 'put.0.0', 99999999999999997, 0, None))]
+>>> [due(FAR, "put.0.0", 10 ** 17 - 1), due(FAR, "put.0.0", 10 ** 17), bound(COPY), bound(DOT)]
+[(('put', 99999999999999998),), (None,), (('put', 'y'),), (('mul', 'sum'),)]
+>>> short = named(DOT, "mul.1", "b")
+>>> [short.names, short["mul"], named_operation(DOT, "mul.1", "b", "mul.1"), inlined(short, "b") == DOT, inlined(DOT, "mul").names]
+[('b', 'mul', 'sum'), ('set', 'mul', ('op', 'mul', ('load', 'a', 1, 0), ('at', 'b', 0))), 'b', True, ('sum',)]
+"""
+
+WAYS = """
+>>> [frontier(DOT, CHIP), frontier(PAIRS, CHIP), least_cost(DOT, CHIP, 1), least_interval(DOT, CHIP, most=3), has_way(PAIRS, CHIP, 3)]
+[((2, 4),), ((4, 3),), None, None, False]
+>>> is_way_paper(DOT, CHIP, 2, ("way", {"mul": "mulld", "mul.1": "get", "sum": "add"}, {"mul": 3, "mul.1": 0, "sum": 7}), most=4)
+True
+>>> two = ("slot", "mul.0", (("slot", "mul.1", (("unit", "mem", 0),)),))
+>>> one = ("pattern", "mul.0", (("get", ("pattern", "mul.1", (("get", two),))),))
+>>> other = ("pattern", "mul.1", (("get", ("slot", "mul", (("slot", "mul.1", (("unit", "mem", 0),)),))),))
+>>> [is_way_paper(DOT, CHIP, 1, ("bar", ("pattern", "mul", (("mul", one), ("mulld", other))))), is_way_paper(DOT, CHIP, 2, ("bar", ("cost",)), most=3)]
+[True, True]
+>>> is_way_paper(PAIRS, CHIP, 3, ("bar", ("pattern", "put", (("put", ("pattern", "put.0", (("f", ("pattern", "put.0.0", (("get", ("circuit", ("put", "put.0.0", "put.0"))),))),))),))))
+True
+"""
+
+LIVES = """
+>>> pair = Lives(2, {"a": (1, 3), "b": (2, 4)})
+>>> [pair.most, pair.alive(1), pair.alive(1, "a"), pair.across(2), pair.is_full(2, "a"), pair.is_full(3, "a"), pair.is_apart("a")]
+[2, 2, 1, 1, True, False, True]
+>>> [least_registers(pair), file_paper(pair, 2)[0], is_file_paper(pair, 2, ("apart", ("b",))), file_paper(pair, 1)[0]]
+[3, 'apart', True, 'alive']
+>>> [is_bases(pair, 3, {"a": 0, "b": 0}), held(pair, 3, {"a": 0, "b": 2}, 2), list(pair.each_alive(1)), str(pair & ("b",))]
+[False, (('a', 0), None, ('b', 0)), [('a', 0), ('b', -1)], 'lives of 1 keys, interval 2']
+>>> [least_registers(Lives(1, {"a": (0, 2)})), least_registers(Lives(3, {"a": (0, 2), "b": (1, 4)})), least_registers(Lives(3, {"a": (0, 3), "b": (0, 3)}))]
+[2, 3, 2]
+>>> least_registers(Lives(2, {"a": (1, 3 + 2 * 10 ** 20), "b": (2, 4)}))
+100000000000000000003
+"""
+
+POINTS = """
+>>> TIGHT, THREE = Points(3, {"a": (0, 1, 2), "b": (2, 3)}), Points(3, {"a": (0, 3), "b": (1, 4), "c": (2, 5)})
+>>> TIGHT.gaps
+(('a', 2),)
+>>> READ = Points(3, {"a": (0, 3, 5), "b": (1,)}, reload=(1, (("u", 0),)), spare={("u", 2): 1})
+>>> [READ.rows["a"], READ.spare, Points(3, {"a": (0, 5), "b": (1,)}, reload=READ.reload, spare=READ.spare) == READ.without_last("a")]
+[(0, 3, 5), {('u', 2): 1}, False]
+"""
+
 SETUP = """
 >>> DOT = Body(("set", "mul", ("op", "mul", ("load", "a", 1, 0), ("load", "b", 1, 0))), ("set", "sum", ("op", "add", ("at", "sum", 1), ("at", "mul", 0))))
 >>> PAIRS = Body(("store", "put", "x", 1, 0, ("op", "f", ("load", "x", 2, -4))))
@@ -94,6 +154,18 @@ class DocumentTest(unittest.TestCase):
 
     def test_covers(self):
         self.check(COVERS, covers, orders)
+
+    def test_jobs(self):
+        self.check(JOBS, job_orders, jobs, rewrites, runs)
+
+    def test_ways(self):
+        self.check(WAYS, ways, frontier)
+
+    def test_lives(self):
+        self.check(LIVES, lives, turning)
+
+    def test_points(self):
+        self.check(POINTS, points)
 
 
 if __name__ == "__main__":

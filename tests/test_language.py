@@ -98,6 +98,12 @@ def own_methods():
     return {node.name for _, row in walk(ast.ClassDef) for node in row.body if isinstance(node, ast.FunctionDef)}
 
 
+def is_reversed_range(node):
+    if not isinstance(node, ast.Call) or len(node.args) != 1:
+        return False
+    return [getattr(getattr(row, "func", None), "id", None) for row in (node, node.args[0])] == ["reversed", "range"]
+
+
 def is_docstring(node):
     return isinstance(node, ast.Expr) and isinstance(node.value, ast.Constant) and isinstance(node.value.value, str)
 
@@ -246,6 +252,8 @@ class StatementsTest(unittest.TestCase):
                     fine.add(id(node.iter))
                 if isinstance(node, ast.Call) and isinstance(node.func, ast.Name) and node.func.id in at_once:
                     fine.update(id(argument) for argument in node.args[:1])
+                if is_reversed_range(node):
+                    fine.add(id(node.args[0]))
             for node in ast.walk(tree):
                 if isinstance(node, ast.Call):
                     name = node.func.id if isinstance(node.func, ast.Name) else getattr(node.func, "attr", "")
@@ -311,10 +319,11 @@ class NamesTest(unittest.TestCase):
 
     def test_attributes(self):
         assigned = {node.attr for _, node in walk(ast.Attribute) if isinstance(node.ctx, ast.Store)}
+        known = assigned | own_methods() | METHODS
         for path, node in walk(ast.Attribute):
             self.assertNotIn(node.attr, ("format", "format_map", "mro", "args", "__class__"))
             if isinstance(node.ctx, ast.Load):
-                self.assertIn(node.attr, assigned | own_methods() | METHODS, (path, node.lineno))
+                self.assertIn(node.attr, known, (path, node.lineno))
             else:
                 self.assertIsInstance(node.value, ast.Name)
                 self.assertEqual(node.value.id, "self")

@@ -1,0 +1,1 @@
+"""Few registers: points of values."""

@@ -1,0 +1,1 @@
+"""Lives of values, and files of registers."""

@@ -1,0 +1,100 @@
+"""The order of lives around a file that turns.
+
+A life with its base covers as many neighbouring places on a circle as it has ticks, and behind it
+comes a gap, up to where the life begins that follows in its register. So the keys form circles, one
+or several. At each moment the gaps that it lies in can exchange what comes behind them, which joins
+two circles at no cost; one circle alone is a file.
+
+All is told here in half ticks: moments are even, and the middle of a tick is odd.
+"""
+
+# A register more than are busy in the middle of some tick: nothing stands in it there.
+IDLE = ""
+
+
+def joined_circles(lives, idle):
+    """The fewest circles of the keys, as lists of keys, with one register more if `idle` is not 0.
+
+    There are several only without it, and then the keys of each one are apart from all others.
+    """
+    if len(lives) == 0:
+        return []
+    spans, turn = short_spans(lives), 2 * lives.interval
+    busiest = busiest_middle(spans, turn)
+    following = first_following(spans, turn, busiest)
+    if idle > 0:
+        spans[IDLE] = (busiest, busiest)
+        following[IDLE] = IDLE
+    joined = True
+    while joined:
+        joined = join_once(spans, following, turn)
+    return [[key for key in circle if key != IDLE] for circle in circles_of(following)]
+
+
+def short_spans(lives):
+    """The keys with lives of the same slots, and of 1 to T ticks: T ticks less need one register less."""
+    rows, interval = {}, lives.interval
+    for key, (begin, end) in lives.rows.items():
+        slot = begin % interval
+        rows[key] = (2 * slot, 2 * (slot + (end - begin - 1) % interval + 1))
+    return rows
+
+
+def busiest_middle(spans, turn):
+    """The middle of a tick in which most values are alive: no register is free there."""
+    counts = [
+        len([key for key, (begin, end) in spans.items() if (middle - begin) % turn < end - begin])
+        for middle in range(1, turn, 2)
+    ]
+    return 2 * counts.index(max(counts)) + 1
+
+
+def first_following(spans, turn, busiest):
+    """For each key one that follows in its register: the first one that begins when it is free."""
+    following, left = {}, []
+    for step in range(1, turn, 2):
+        moment = (busiest + step) % turn
+        left.extend([key for key, (_, end) in spans.items() if end % turn == moment])
+        for key in [text for text, (begin, _) in spans.items() if begin == moment]:
+            following[left.pop()] = key
+    return following
+
+
+def circles_of(following):
+    """The circles of the keys."""
+    circles, seen = [], {}
+    for first in following:
+        circle, key = [], first
+        while key not in seen:
+            seen[key] = True
+            circle.append(key)
+            key = following[key]
+        if circle:
+            circles.append(circle)
+    return circles
+
+
+def is_in_gap(spans, following, turn, key, moment):
+    """Whether a moment lies in the gap behind a key, its ends included."""
+    if key == IDLE and following[key] == IDLE:
+        return True
+    end, begin = spans[key][1], spans[following[key]][0]
+    return (moment - end) % turn <= (begin - end) % turn
+
+
+def join_once(spans, following, turn):
+    """Join two circles whose gaps meet in a moment, if there are such; return whether there were."""
+    circles = circles_of(following)
+    homes = {key: place for place, circle in enumerate(circles) for key in circle}
+    for moment in range(0, turn, 2):
+        near = [key for key in spans if is_in_gap(spans, following, turn, key, moment)]
+        for key in near[1:]:
+            if homes[key] != homes[near[0]]:
+                following[key], following[near[0]] = following[near[0]], following[key]
+                return True
+    return False
+
+
+def order_on_circle(circles):
+    """The keys in the order of their only circle, if there is one."""
+    return circles[0] if circles else []

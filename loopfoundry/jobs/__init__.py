@@ -1,0 +1,1 @@
+"""Covered bodies, their runs, orders and rewrites."""

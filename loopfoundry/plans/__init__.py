@@ -1,0 +1,1 @@
+"""Plans: starts that fit, within the units of a machine."""

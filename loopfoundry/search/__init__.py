@@ -1,0 +1,1 @@
+"""Covers, costs and intervals in one tree."""
