@@ -2,6 +2,9 @@
 
 from random import Random
 
+from loopfoundry.few.points import Points
+from loopfoundry.files.lives import Lives
+from loopfoundry.jobs.jobs import Job
 from loopfoundry.machine.machines import Machine
 from loopfoundry.memory.meetings import Meetings
 from loopfoundry.source.bodies import Body
@@ -42,7 +45,8 @@ def odd_values():
     tuples += [("set", "a"), ("store", "s"), ((), ()), (([],), {}), (0, 1, 2), ("nearest", 0, 0), ("gap", 0, 0)]
     tuples += [("modulus", 2), ("covered", {}, {}), ("bare", {}), ("within", {}), ("beyond", {}), (DOT,), (1, ())]
     others = [None, True, False, [], [0, 1], {}, {"a": 1}, {0: "a"}, {None: ()}, {(): []}, [[]], {"a": {"b": ["c"]}}]
-    objects = [DOT, CHIP, Meetings((1, 0), (1, 0)), [DOT], {"a": CHIP}]
+    objects = [DOT, CHIP, Meetings((1, 0), (1, 0)), [DOT], {"a": CHIP}, Lives(1, {"q": (0, 1)}), Points(1, {"q": (0,)})]
+    objects.append(Job(DOT, CHIP, {"mul": "mulld", "mul.1": "get", "sum": "add"}))
     deep = [nested(kind, 40) for kind in (tuple, list, dict)]
     deep.append(("op", "f", nested(tuple, 38)))
     return numbers + texts + tuples + others + objects + deep
@@ -225,7 +229,6 @@ def unit_machine(random, patterns=8, chance=0.4, most=2, ticks=4):
 def draw_job(random, most=4, levels=3, limit=24, spread=4, chance=0.4):
     """A job by a machine with units."""
     from loopfoundry.covers.orders import count_covers, cover_at
-    from loopfoundry.jobs.jobs import Job
 
     body = draw_body(random, most, levels, limit, spread)
     machine = unit_machine(random, chance=chance)
@@ -286,6 +289,47 @@ def symbols():
         lambda name, number: ("first", name, number),
         lambda array, cell: ("contents", array, cell),
     )
+
+
+def draw_rings(random):
+    """A body of operators that read one another, and a machine with several patterns for each, most with units."""
+    many = random.randint(3, 8)
+    names, kinds = "abcdefgh"[:many], ["f"] * random.randint(0, 2) + ["g"] * random.randint(1, 2)
+    kinds += ["k"] * (many - len(kinds))
+    random.shuffle(kinds)
+    rows = []
+    for place, name in enumerate(names):
+        ats = []
+        for _ in range(1 if kinds[place] == "k" else 2):
+            earlier = place and random.random() < 0.6
+            ats.append(("at", random.choice(names[:place]), 0) if earlier else ("at", random.choice(names), random.choice((1, 1, 2, 3))))
+        rows.append(("set", name, ("op", kinds[place], *ats)))
+    return Body(*rows), ring_machine(random, (("f", 2), ("g", 2)), ("k", 1))
+
+
+def draw_deep(random):
+    """A body of trees of several levels, and a machine with several patterns for each of its operators."""
+    rows = [("set", "a", ("op", "f", ("op", "g", ("op", "h"), ("at", "b", random.randint(1, 3))), ("at", "a", 1)))]
+    below = ("op", random.choice("kg"), ("at", "a", random.randint(0, 1)), ("op", "h"))
+    rows.append(("set", "b", below if below[1] == "g" else below[:3]))
+    if random.random() < 0.5:
+        rows.append(("store", "s", "x", 1, random.randint(0, 2), ("op", "k", ("load", "x", 1, 0))))
+    machine = ring_machine(random, (("f", 2), ("g", 2), ("h", 0)), ("k", 1))
+    extra = [("l", ("load",), 2, 1, ()), ("s", ("store", ("hole",)), 1, 1, ())]
+    return Body(*rows), Machine.of(machine.units, (*machine.patterns[:6], *extra))
+
+
+def ring_machine(random, kinds, last):
+    """A machine with several patterns with units for operators of some kinds, and one without for the last one."""
+    units = {unit: random.choice((1, 1, 2)) for unit in "uv"[: random.randint(1, 2)]}
+    rows = [(last[0], ("op", last[0], *[("hole",)] * last[1]), random.randint(1, 4), 1, ())]
+    for operator, many in kinds:
+        for letter in "xyz"[: random.randint(1, 3)]:
+            uses = {(random.choice(sorted(units)), random.randint(0, 3)) for _ in range(random.randint(0, 4))}
+            shape = ("op", operator, *[("hole",)] * many)
+            rows.append((operator + letter, shape, random.randint(1, 4), random.randint(0, 4), tuple(sorted(uses))))
+    rows = rows[:1] + random.sample(rows[1:], len(rows) - 1)
+    return Machine.of(units, tuple(rows[:8]))
 
 
 def told_parts(shape, tree, text):

@@ -171,6 +171,8 @@ class EdgesTest(unittest.TestCase):
             (2, 5, cover, starts, bars),
             (3, 4, cover, starts, bars),
             (True, 4, cover, starts, bars),
+            (0, 4, cover, starts, bars),
+            (33, 4, cover, starts, bars),
             (2, 4, cover, starts, list(bars)),
             (2, 4, cover, {**starts, "sum": 0}, bars),
             (2, 4, cover, starts),
@@ -199,6 +201,31 @@ class EdgesTest(unittest.TestCase):
         free = machine.with_cost("fast", 0)
         self.assertEqual(frontier(body, free), ((1, 0),))
         self.assertEqual(frontier_paper(body, free), ("frontier", ((1, 0, {"a": "fast"}, {"a": 0}, ()),)))
+
+    def test_rows_that_do_not_fall(self):
+        body = Body(("set", "a", ("op", "h")))
+        lines = ["unit u 1", "pattern late 1 4 u 0 u 1 u 2 u 3 : h ( )", "pattern even 1 6 u 0 u 3 : h ( )"]
+        machine = Machine.from_lines(*lines, "pattern h 1 7 : h ( )")
+        self.assertEqual(frontier(body, machine), ((1, 7), (2, 6), (4, 4)))
+        rows = frontier_paper(body, machine)[1]
+        self.assertIs(is_frontier_paper(body, machine, ("frontier", rows)), True)
+        own = way_paper(body, machine, 3, most=6)
+        self.assertEqual(own[0], "bar")
+        further = (3, 7, {"a": "h"}, {"a": 0}, (own[1],))
+        last = (*rows[2][:4], rows[2][4][-1:])
+        self.assertIs(is_frontier_paper(body, machine, ("frontier", (*rows[:2], further, last))), False)
+        self.assertIs(is_frontier_paper(body, machine, ("frontier", (*rows[:2], further, rows[2]))), False)
+        self.assertIs(is_frontier_paper(body, machine, ("frontier", (*rows[:2], last))), False)
+
+    def test_the_own_bar_of_a_row(self):
+        body = Body(("set", "a", ("op", "f", ("at", "a", 1))))
+        machine = Machine.from_lines("pattern slow 3 0 : f ( _ )", "pattern fast 1 2 : f ( _ )", "pattern mid 2 1 : f ( _ )")
+        first, *rows = frontier_paper(body, machine)[1]
+        ring = ("circuit", ("a",))
+        for leaf, right in ((ring, True), (("cost",), False)):
+            tree = ("pattern", "a", (("fast", ("cost",)), ("mid", leaf), ("slow", ring)))
+            bent = ((*first[:4], (tree,)), *rows)
+            self.assertIs(is_frontier_paper(body, machine, ("frontier", bent)), right)
 
     def test_the_least_cost_can_grow_with_the_interval(self):
         body = Body(("set", "a", ("op", "h")))

@@ -187,6 +187,7 @@ class ObjectTest(unittest.TestCase):
         job = Job(DOT, CHIP, COVER)
         same = Job(Body(*DOT.statements), Machine.of_lines(CHIP.lines), dict(reversed(list(COVER.items()))))
         self.assertEqual(job, same)
+        self.assertEqual((list(same.cover), list(same), same.arcs), (sorted(COVER), sorted(COVER), job.arcs))
         other = Job(DOT, CHIP, {"mul": "mul", "mul.0": "get", "mul.1": "get", "sum": "add"})
         for value in (other, Job(DOT, CHIP.with_cost("add", 7), COVER), DOT, None, COVER):
             self.assertNotEqual(job, value)

@@ -195,6 +195,8 @@ class StatementsTest(unittest.TestCase):
                     self.assertIsInstance(node.targets[0], ast.Name)
                     for part in ast.walk(node.value):
                         self.assertNotIsInstance(part, (ast.Call, ast.comprehension, ast.Lambda, ast.Set))
+                        if part is not node.value:
+                            self.assertNotIsInstance(part, (ast.List, ast.Dict), (path, node.lineno))
 
     def test_statements(self):
         for path, node in walk(ast.stmt):

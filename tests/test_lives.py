@@ -156,6 +156,7 @@ class OperatorsTest(unittest.TestCase):
         self.assertEqual(list((one | other).rows), ["a", "b", "c"])
         for value in [*odd_values(), Lives(3, {"z": (0, 1)}), Lives(2, {"b": (7, 8)}), one]:
             refused(self, InvalidArgument, lambda: one | value)
+        refused(self, InvalidArgument, lambda: Lives(2, {"b": (0, 1), "d": (0, 1)}) | Lives(2, {"b": (0, 1), "e": (0, 1)}))
         wide = Lives(2, {f"k{k}": (0, 1) for k in range(47)})
         self.assertEqual(len(wide | one), 48)
         refused(self, InvalidArgument, lambda: wide | other)

@@ -141,13 +141,19 @@ class PapersTest(unittest.TestCase):
         for value in (("bound", "y", "put"), ("bound", "put", "b"), ("bound", "put"), ("bound", "put", "y", "b")):
             self.assertIs(is_order_paper(body, other, value), False)
         self.assertIs(is_order_paper(body, names, ("bound", "put", "y")), False)
+        self.assertIs(is_order_paper(body, other, ("exchanges", (0,))), False)
+        self.assertIs(is_order_paper(body, other, ("bond", "put", "y")), False)
+        last = ("b", "y", "put")
+        self.assertIs(is_order_paper(body, last, ("bound", "put", "b")), False)
+        self.assertIs(is_order_paper(body, last, ("bound", "put", "y")), True)
 
     def test_bent_papers(self):
         names = ("b", "a")
         body = Body(("set", "a", ("op", "h")), ("set", "b", ("op", "h")))
         self.assertIs(is_order_paper(body, names, ("exchanges", (0,))), True)
         rows = [(False,), (-1,), (1,), (None,), ("0",), [0], (0, 0), (), (0, 0, 0, 0)]
-        bent = [("exchanges", row) for row in rows] + [("exchanges",), ("exchanges", (0,), ()), ["exchanges", (0,)]]
+        bent = [("exchange", (0,)), ("bound", (0,)), ("bound", "a", "b")]
+        bent += [("exchanges", row) for row in rows] + [("exchanges",), ("exchanges", (0,), ()), ["exchanges", (0,)]]
         for value in [*odd_values(), *bent]:
             self.assertIs(is_order_paper(body, names, value), False, value)
         self.assertIs(is_order_paper(body, names, ("exchanges", (0, 0, 0))), True)

@@ -112,6 +112,8 @@ class EdgesTest(unittest.TestCase):
         self.assertEqual(len(Points(2, many)), 24)
         refused(self, InvalidLives, Points, 2, {**many, "z": (0,)})
         refused(self, InvalidLives, Points, 2, {**many, "k0": (0, 1, 2)})
+        self.assertEqual(len(Points(2, {f"k{k}": (0,) for k in range(24)})), 24)
+        refused(self, InvalidLives, Points, 2, {f"k{k}": (0,) for k in range(25)})
         self.assertEqual(len(Points(2, {"a": tuple(range(48))})["a"]), 48)
         refused(self, InvalidLives, Points, 2, {"a": tuple(range(49))})
 

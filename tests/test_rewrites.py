@@ -229,6 +229,11 @@ class InlinedTest(unittest.TestCase):
             refused(self, InvalidArgument, inlined, body, "a")
             refused(self, InvalidArgument, keeps_findings, body, "a")
 
+    def test_one_name_of_several_things(self):
+        body = Body(("set", "f", ("load", "f", 1, 0)), ("set", "b", ("op", "f", ("at", "f", 0), ("load", "f", 2, 0))))
+        self.assertEqual(inlined(body, "f"), Body(("set", "b", ("op", "f", ("load", "f", 1, 0), ("load", "f", 2, 0)))))
+        self.assertIs(keeps_findings(body, "f"), True)
+
     def test_too_many_levels(self):
         tree = ("op", "f", ("op", "f", ("op", "f", ("load", "x", 1, 0))))
         body = Body(("set", "a", tree), ("set", "b", ("op", "f", ("at", "a", 0))))

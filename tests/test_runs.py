@@ -291,6 +291,31 @@ class FarTest(unittest.TestCase):
         self.assertEqual(least_wrong(job, 3, starts), (8, (50, "a", 0, 0, ("s", 7))))
 
 
+class NearTest(unittest.TestCase):
+    def test_all_small_starts(self):
+        store = ("store", "s", "x", 1, 0, ("op", "h"))
+        machine = Machine.from_lines("pattern h 1 1 : h ( )", "pattern put 2 1 : = _", "pattern get 1 1 : @")
+        kinds = set()
+        for step in (-1, 0, 1, 2):
+            for offset in range(-2, 5):
+                load = ("set", "a", ("load", "x", step, offset))
+                for rows in ((store, load), (load, store)):
+                    job = Job(Body(*rows), machine, {"a": "get", "s": "put", "s.0": "h"})
+                    for interval in (1, 2, 3):
+                        for get in range(0, 9):
+                            starts = {"a": get, "s": 2, "s.0": 1}
+                            told = least_wrong(job, interval, starts)
+                            self.assertEqual(told is None, does_fit(job, interval, starts))
+                            things = second_wrong(job, interval, starts, 12)
+                            self.assertEqual(told is None, not things)
+                            if told is not None:
+                                rounds, thing = told
+                                kinds.add((thing[4] is None, rounds > 1))
+                                self.assertEqual(second_wrong(job, interval, starts, rounds)[0], thing)
+                                self.assertEqual(second_wrong(job, interval, starts, rounds - 1), [])
+        self.assertEqual(len(kinds), 4)
+
+
 class EdgesTest(unittest.TestCase):
     def test_readings_below_round_0(self):
         self.assertEqual(due(JOB, "sum", 0), (("sum", -1), ("mul", 0)))
@@ -323,6 +348,8 @@ class EdgesTest(unittest.TestCase):
         self.assertEqual(len(list(wrong_things(COPY_JOB, 2, EARLY, 64))), 64)
         self.assertEqual(timed_run(COPY_JOB, 2, EARLY, 0, *symbols()), ({"put.0": (), "y": (), "y.0": ()}, {}))
         refuses_number(self, 0, found, COPY_JOB, 2, EARLY, 0, "y", 0)
+        refuses_number(self, 5, found, COPY_JOB, 2, EARLY, 0, "y", 5)
+        refused(self, InvalidArgument, found, COPY_JOB, 2, EARLY, 0, "z", 5)
 
     def test_right_values_with_wrong_starts(self):
         # The store copies what the load finds in the place of what it stores.
@@ -335,6 +362,7 @@ class EdgesTest(unittest.TestCase):
         bent = [thing[:4], (*thing, None), list(thing), (1, *thing[1:]), (-1, *thing[1:]), (False, *thing[1:])]
         bent += [(0, text, 0, 0, None) for text in ("y", "put", "put.0", "x", None, ["y.0"])]
         bent += [(0, "y.0", number, 0, None) for number in (1, -1, False, None, "0")]
+        bent += [(-2, "y.0", -1, 0, None), (18, "y.0", 9, 0, None)]
         bent += [(0, "y.0", 0, index, None) for index in (1, -1, False, None)]
         bent += [(0, "y.0", 0, 0, told) for told in (("put", 0), ("put", 1), False, (), ("put",), ["put", 0])]
         for value in [*odd_values(), *bent]:

@@ -255,6 +255,7 @@ class BentPapersTest(unittest.TestCase):
             self.assertIs(is_file_paper(PAIR, 2, ("apart", names)), True)
             self.assertIs(is_file_paper(PAIR, 3, ("apart", names)), False)
             self.assertIs(is_file_paper(PAIR, 1, ("apart", names)), False)
+            self.assertIs(is_file_paper(PAIR, 2, ("part", names)), False)
         for names in (("a", "b"), (), ("a", "a"), ["a"], "a", ("c",), (None,), ({},), ("b", "a")):
             self.assertIs(is_file_paper(PAIR, 2, ("apart", names)), False)
 

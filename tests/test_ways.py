@@ -7,7 +7,7 @@ from loopfoundry.covers.orders import count_covers, each_cover
 from loopfoundry.errors import InvalidBody, InvalidMachine, TooMany
 from loopfoundry.jobs.jobs import Job
 from loopfoundry.machine.machines import Machine
-from loopfoundry.plans.plans import is_plan
+from loopfoundry.plans.plans import faults, is_plan
 from loopfoundry.search.ways import has_way, is_way_paper, way_paper
 from loopfoundry.source.bodies import Body
 from tests.helpers import (
@@ -18,6 +18,8 @@ from tests.helpers import (
     all_slots_plan,
     bent_values,
     draw_body,
+    draw_deep,
+    draw_rings,
     drawn_tree,
     odd_values,
     refused,
@@ -112,6 +114,40 @@ class DrawnWorldsTest(unittest.TestCase):
         self.assertGreater(told[False], 500)
         self.assertGreater(told[True], 50)
 
+    def check_papers(self, worlds, intervals):
+        """Exactly one paper is right: by the plain judge, and by all slots where these are few."""
+        kinds = {"way": 0, "bar": 0}
+        for random, (body, machine) in worlds:
+            try:
+                costs = [cover_cost(body, machine, cover) for cover in each_cover(body, machine)]
+                has_way(body, machine, 32)
+            except TooMany:
+                continue
+            for interval in random.sample(intervals, 2):
+                for most in (None, random.choice(costs) if costs else 3):
+                    kind, *told = paper = way_paper(body, machine, interval, most=most)
+                    kinds[kind] += 1
+                    self.assertIs(is_way_paper(body, machine, interval, paper, most=most), True)
+                    if kind == "way":
+                        self.assertTrue(most is None or cover_cost(body, machine, told[0]) <= most)
+                        self.assertEqual(faults(Job(body, machine, told[0]), interval, told[1]), ())
+                    else:
+                        self.assertTrue(SecondJudge(body, machine, interval, most).is_right(told[0], {}, {}))
+                        if interval < 4 and len(costs) < 30:
+                            fine = [cost for cost in good_costs(body, machine, interval) if most is None or cost <= most]
+                            self.assertEqual(fine, [])
+        return kinds
+
+    def test_rings(self):
+        random = seeded(704)
+        kinds = self.check_papers([(random, draw_rings(random)) for _ in range(300)], range(1, 13))
+        self.assertGreater(min(kinds.values()), 200)
+
+    def test_trees_of_several_levels(self):
+        random = seeded(705)
+        kinds = self.check_papers([(random, draw_deep(random)) for _ in range(400)], range(1, 9))
+        self.assertGreater(min(kinds.values()), 200)
+
     def test_told_arcs(self):
         random = seeded(703)
         for _ in range(60):
@@ -134,9 +170,12 @@ class JudgeTest(unittest.TestCase):
         bent = [("way", cover), ("way", cover, starts, ()), ["way", cover, starts], ("bar", cover, starts)]
         bent += [("way", starts, cover), ("way", {**cover, "mul": "mul"}, starts), ("way", cover, {**starts, "sum": 5})]
         bent += [("way", cover, {**starts, "sum": 8}), ("way", cover, {**starts, "mul": True}), ("way", {}, {})]
+        bent += [("wax", cover, starts), ("bar", ("cost",), ()), ("bar",), ("way",)]
         bent += [("way", cover, {**starts, "mul.0": 0}), ("way", {**cover, "mul.0": "get"}, starts)]
         for value in [*odd_values(), *bent]:
             self.assertIs(is_way_paper(DOT, CHIP, 2, value), False, value)
+            self.assertIs(is_way_paper(DOT, CHIP, 2, ("bar", value)), False, value)
+        self.assertIs(is_way_paper(DOT, CHIP, 2, ("bar", ("cost",), ()), most=1), False)
 
     def test_costs(self):
         self.assertIs(self.judged(("cost",), most=3), True)
@@ -173,9 +212,9 @@ class JudgeTest(unittest.TestCase):
         self.assertIs(judged(1, ("slot", "a", (("unit", "v", 0),))), False)
         for bent in (("unit", "u", 2), ("unit", "u", -2), ("unit", "w", 0), ("unit", "u", False), ("unit", None, 0)):
             self.assertIs(judged(2, ("slot", "a", (bent,))), False)
-        for bent in (("slot", "b", (unit,)), ("slot", "a", [unit]), ("slot", "a", ()), ("slot", "a", unit)):
+        for bent in (("slot", [], (unit,)), ("slot", {}, (unit,)), ("pattern", [], ()), ("unit", [], 0), ("slot", "b", (unit,)), ("slot", "a", [unit]), ("slot", "a", ()), ("slot", "a", unit)):
             self.assertIs(judged(2, bent), False)
-        again = ("slot", "a", (("slot", "a", (unit, unit)),))
+        again = ("slot", "a", (("slot", "a", (unit, ("unit", "u", 1))),))
         self.assertIs(judged(2, again), False)
         two = Body(("set", "a", ("op", "h")), ("set", "b", ("op", "h")))
         for trees, right in (((unit,), False), ((unit, unit), True)):
@@ -240,6 +279,27 @@ class JudgeTest(unittest.TestCase):
             self.assertIs(told, interval < 4)
             self.assertIs(self.judged(("pattern", "a", (("f", ("circuit", ("a", "a"))),)), interval, None, body, machine), False)
             self.assertIs(has_way(body, machine, interval), interval >= 4)
+
+    def test_neighbours_are_never_equal(self):
+        body = Body(("set", "a", ("op", "f", ("at", "a", 1), ("at", "b", 1))), ("set", "b", ("op", "k", ("at", "a", 0))))
+        machine = Machine.from_lines("pattern f 3 0 : f ( _ _ )", "pattern k 3 0 : k ( _ )")
+
+        def judged(*circuit):
+            tree = ("pattern", "a", (("f", ("pattern", "b", (("k", ("circuit", circuit)),))),))
+            return self.judged(tree, 2, None, body, machine)
+
+        for circuit, right in (("ab", True), ("ba", True), ("a", True), ("aab", False), ("aba", False), ("abab", True)):
+            self.assertIs(judged(*circuit), right, circuit)
+
+    def test_circuits_of_65_operations(self):
+        rows = [("set", "a", ("op", "f", ("at", "e", 1)))]
+        rows += [("set", name, ("op", "f", ("at", before, 0))) for before, name in zip("abcd", "bcde")]
+        body, machine = Body(*rows), Machine.from_lines("pattern f 4 0 : f ( _ )")
+        for turns, right in ((1, True), (12, True), (13, False)):
+            tree = ("circuit", tuple("abcde") * turns)
+            for name in "abcde":
+                tree = ("pattern", name, (("f", tree),))
+            self.assertIs(self.judged(tree, 3, None, body, machine), right)
 
     def test_circuits_of_64_operations(self):
         rows = [("set", "a", ("op", "f", ("at", "h", 1)))]
@@ -325,6 +385,11 @@ class EdgesTest(unittest.TestCase):
                 else:
                     for most in (None, 0):
                         self.assertEqual(refused(self, TooMany, has_way, body, machine, interval, most=most).limit, 4)
+        deep = Machine.from_lines("unit u 1", "pattern f 1 1 u 0 : f ( _ )", "pattern h 1 1 u 0 : h ( )")
+        rows = [("set", "a", ("op", "f", ("op", "f", ("op", "f", ("op", "h")))))]
+        self.assertIs(has_way(Body(*rows), deep, 4), True)
+        rows.append(("set", "b", ("op", "h")))
+        self.assertEqual(refused(self, TooMany, has_way, Body(*rows), deep, 4).limit, 4)
         # Any cover counts, whatever it costs, but only what a cover can have.
         rows = [*machine.lines, "pattern hh 1 20 u 0 : h ( )"]
         body = Body(*[("set", name, ("op", "g")) for name in "abcd"], ("set", "z", ("op", "h")))
@@ -355,6 +420,25 @@ class EdgesTest(unittest.TestCase):
         self.assertIs(is_way_paper(body, machine, 23, ("way", cover, starts)), False)
         tree = ("slot", "a", (("slot", "b", tuple([("unit", "u", 0)] + [("circuit", tuple("ab"))])),))
         self.assertIs(is_way_paper(body, machine, 2, ("bar", tree)), False)
+
+
+class CoupledTest(unittest.TestCase):
+    def test_operations_without_a_common_unit_on_a_common_circuit(self):
+        # With the interval 2, b starts 1 tick behind a and d 2 ticks behind c; a and c, b and d share a unit.
+        rows = [
+            ("set", "a", ("op", "f", ("at", "b", 1))),
+            ("set", "b", ("op", "g", ("at", "a", 0))),
+            ("set", "c", ("op", "h", ("at", "d", 2))),
+            ("set", "d", ("op", "k", ("at", "c", 0))),
+        ]
+        lines = ["unit u 1", "unit v 1", "pattern f 1 1 u 0 : f ( _ )", "pattern g 1 1 v 0 : g ( _ )"]
+        for ticks, there in ((1, True), (2, False)):
+            more = [f"pattern h {ticks} 1 u 0 : h ( _ )", f"pattern k {ticks} 1 v 0 : k ( _ )"]
+            body, machine = Body(*rows), Machine.from_lines(*lines, *more)
+            self.assertIs(all_slots_plan(Job(body, machine, {"a": "f", "b": "g", "c": "h", "d": "k"}), 2), there)
+            paper = way_paper(body, machine, 2)
+            self.assertEqual(paper[0], "way" if there else "bar")
+            self.assertIs(is_way_paper(body, machine, 2, paper), True)
 
 
 class WrongArgumentsTest(unittest.TestCase):

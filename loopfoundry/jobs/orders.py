@@ -42,8 +42,6 @@ def check_order(body, names):
     check_body(body)
     if not isinstance(names, tuple) or len(names) != len(body) or not all([name in names for name in body.names]):
         raise InvalidArgument("not just the names of the statements")
-    if not all([name in body for name in names]):
-        raise InvalidArgument("not just the names of the statements")
     for reader, name, distance in body.reads:
         if distance == 0 and not is_before(names, name, reader):
             raise InvalidBody("a statement is read ahead of its place")

@@ -13,7 +13,7 @@ def is_bar(field, most, tree):
 
 def is_right_tree(field, most, tree, told, slots):
     """Whether a tree is right by a told choice: dicts from operations to patterns, and to slots."""
-    if not isinstance(tree, tuple) or not 1 <= len(tree) <= 3:
+    if not isinstance(tree, tuple):
         return False
     if tree == ("cost",):
         return field.is_above(told, most)

@@ -7,7 +7,10 @@ they ask for each pair (unit, slot), and the strongest needs between the operati
 
 from loopfoundry.search.circuits import joined
 
-NOTHING = ({}, {}, {})
+
+def nothing_told():
+    """The state without any slots."""
+    return ({}, {}, {})
 
 
 def crowded(field, told):
@@ -81,7 +84,7 @@ def slots_for(frame, nodes):
     asks = tuple([field.asks(node, told[node]) for node in nodes])
     weights = tuple([far[(one, other)][0] if (one, other) in far else None for one in nodes for other in nodes])
     if (asks, weights) not in field.memory:
-        slots = search_slots(frame, NOTHING, nodes)
+        slots = search_slots(frame, nothing_told(), nodes)
         field.memory[(asks, weights)] = None if slots is None else tuple([slots[node] for node in nodes])
     known = field.memory[(asks, weights)]
     return None if known is None else dict(zip(nodes, known))

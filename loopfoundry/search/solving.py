@@ -7,7 +7,7 @@ the dict `used` alone. So a tree that does not use what was told last is one for
 
 from loopfoundry.covers.boards import has_all, open_of, sum_of
 from loopfoundry.search.circuits import joined
-from loopfoundry.search.slots import NOTHING, core_of, crowded, groups_of, slot_tree, slots_for, slotted_in
+from loopfoundry.search.slots import core_of, crowded, groups_of, nothing_told, slot_tree, slots_for, slotted_in
 
 
 def search(field, most):
@@ -30,8 +30,8 @@ def search_on(field, most, told, far):
             return (way, tree, needs)
         branches[name] = tree
         used.update(needs)
-    needed = {text: True for text in used if text != node}
-    needed.update(over(told, node))
+    # The node is open only where all that it stands below is told.
+    needed = {text: True for text in [*used, *over(told, node)] if text != node}
     return (None, ("pattern", node, tuple([(name, branches[name]) for name in sorted(branches)])), needed)
 
 
@@ -55,12 +55,12 @@ def search_with(field, most, told, far):
     links = links_to(field, told, nodes, node)
     further, circuit = joined(far, nodes, node, links)
     if circuit is not None:
-        return (None, ("circuit", circuit), with_above(told, list(circuit)))
+        return (None, ("circuit", circuit), {text: True for text in circuit})
     frame = (field, told, further)
     for group in groups_of(frame, crowded(field, told)):
         if slots_for(frame, group) is None:
-            tree = slot_tree(frame, NOTHING, core_of(frame, group))
-            return (None, tree, with_above(told, list(slotted_in(tree))))
+            tree = slot_tree(frame, nothing_told(), core_of(frame, group))
+            return (None, tree, slotted_in(tree))
     return search_on(field, most, told, further)
 
 
@@ -105,18 +105,9 @@ def above_of(told, node):
 
 
 def over(told, node):
-    """The told operations that a node stands below, each with True."""
-    used, text = {}, above_of(told, node)
+    """The told operations that a node stands below."""
+    rows, text = [], above_of(told, node)
     while text is not None:
-        used[text] = True
+        rows.append(text)
         text = above_of(told, text)
-    return used
-
-
-def with_above(told, nodes):
-    """Some told operations and all that they stand below, each with True."""
-    used = {}
-    for node in nodes:
-        used[node] = True
-        used.update(over(told, node))
-    return used
+    return rows
