@@ -222,6 +222,15 @@ class WrongArgumentsTest(unittest.TestCase):
                 refused(self, InvalidMachine, Job, DOT, value, None)
             refused(self, InvalidCover, Job, DOT, CHIP, value)
 
+    def test_nothing_is_changed(self):
+        cover, job = {**COVER, "sum": "mul"}, Job(DOT, CHIP, COVER)
+        refused(self, InvalidCover, Job, DOT, CHIP, cover)
+        refuses_number(self, 65, job.run, 65, None, None, None)
+        refused(self, InvalidArgument, job.ticks, "mul.0")
+        refuses_name(self, "mul.0", job.__getitem__, "mul.0")
+        self.assertEqual((cover, job), ({**COVER, "sum": "mul"}, Job(DOT, CHIP, COVER)))
+        self.assertEqual((DOT.names, CHIP.names), (("mul", "sum"), ("add", "mul", "mulld", "get", "f", "put")))
+
     def test_covers(self):
         for key, worth in (("sum", "mul"), ("sum", None), ("mul.0", "get"), ("mul", "mul"), ("mul.1", "mulld")):
             refused(self, InvalidCover, Job, DOT, CHIP, {**COVER, key: worth})

@@ -101,6 +101,11 @@ class EdgesTest(unittest.TestCase):
         self.assertEqual(TIGHT.gaps, (("a", 2),))
         self.assertEqual(Points(1, {"a": (7,)}).gaps, ())
 
+    def test_a_unit_that_is_never_spare(self):
+        points = Points(3, {"a": (0, 2)}, save=(1, (("u", 0),)))
+        self.assertEqual((points.spare, points.gaps, points.save), ({}, (("a", 1),), (1, (("u", 0),))))
+        self.assertEqual(Points(3, {"a": (0, 2)}, save=points.save, spare={("u", 0): 0}).spare, {("u", 0): 0})
+
     def test_defaults(self):
         self.assertEqual((TIGHT.save, TIGHT.reload, TIGHT.spare), ((1, ()), (1, ()), {}))
         self.assertEqual(Points(3, TIGHT.rows, spare={}), TIGHT)

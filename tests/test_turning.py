@@ -261,6 +261,13 @@ class BentPapersTest(unittest.TestCase):
 
 
 class WrongArgumentsTest(unittest.TestCase):
+    def test_nothing_is_changed(self):
+        bases = {"b": 2, "a": 0}
+        refuses_number(self, None, held, PAIR, 3, bases, None)
+        refuses_number(self, 25, is_bases, PAIR, 25, bases)
+        held(PAIR, 3, bases, 0)
+        self.assertEqual((list(bases.items()), PAIR), ([("b", 2), ("a", 0)], Lives(2, {"a": (1, 3), "b": (2, 4)})))
+
     def test_arguments(self):
         for value in odd_values():
             if not isinstance(value, Lives):

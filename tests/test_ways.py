@@ -461,6 +461,14 @@ class WrongArgumentsTest(unittest.TestCase):
                     refuses_number(self, value, call, DOT, CHIP, 2, most=value)
                 refuses_number(self, value, is_way_paper, DOT, CHIP, 2, None, most=value)
 
+    def test_nothing_is_changed(self):
+        cover, starts = dict(WAY[1]), dict(WAY[2])
+        lines = CHIP.lines
+        refuses_number(self, 0, is_way_paper, DOT, CHIP, 0, ("way", cover, starts))
+        refuses_number(self, -1, is_way_paper, DOT, CHIP, 1, ("way", cover, starts), most=-1)
+        is_way_paper(DOT, CHIP, 2, ("way", cover, starts))
+        self.assertEqual((cover, starts, CHIP.lines), (WAY[1], WAY[2], lines))
+
     def test_errors_come_ahead_of_sizes(self):
         wide = Body(*[("set", name, ("op", "h")) for name in "abcdefghi"])
         refuses_number(self, 0, way_paper, wide, CHIP, 0)
