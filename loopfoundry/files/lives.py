@@ -86,20 +86,17 @@ class Lives:
     def alive(self, tick, *names):
         """How many values are alive in a tick; with names only those of these keys."""
         check_integer(tick)
-        rows = self._lives_of(names) if names else list(self._rows.values())
-        return sum([count_alive(life, self._interval, tick) for life in rows])
+        return sum([count_alive(life, self._interval, tick) for life in self._counted(names)])
 
     def across(self, moment, *names):
         """How many values are across a moment; with names only those of these keys."""
         check_integer(moment)
-        rows = self._lives_of(names) if names else list(self._rows.values())
-        return sum([count_across(life, self._interval, moment) for life in rows])
+        return sum([count_across(life, self._interval, moment) for life in self._counted(names)])
 
     def is_full(self, moment, *names):
         """Whether these keys are full at a moment; without names, whether all are."""
         check_integer(moment)
-        rows = self._lives_of(names) if names else list(self._rows.values())
-        return is_full_at(rows, self._interval, moment)
+        return is_full_at(self._counted(names), self._interval, moment)
 
     def most_of(self, *names):
         """The greatest number of values of these keys that are alive in one tick."""
@@ -172,6 +169,10 @@ class Lives:
         for key in names:
             check_known(key, self._names)
         return [self._rows[key] for key in self._names if key in names]
+
+    def _counted(self, names):
+        """The lives of these keys, or all lives without names."""
+        return self._lives_of(names) if names else list(self._rows.values())
 
     def _is_one_full(self, some, others, moment):
         """Whether some lives or the others are full at a moment."""
