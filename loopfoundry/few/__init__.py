@@ -1,1 +1,1 @@
-"""Few registers: points of values."""
+"""Few registers: points of values, moves, reliefs, and trees that show that there is none."""

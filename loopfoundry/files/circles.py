@@ -98,3 +98,48 @@ def join_once(spans, following, turn):
 def order_on_circle(circles):
     """The keys in the order of their only circle, if there is one."""
     return circles[0] if circles else []
+
+
+def parts_of_file(rows, interval):
+    """The keys of lives in parts that are apart from one another, in a file of as many registers as their most.
+
+    Walk the moments from the busiest tick on, in which no register is free: what ends or begins at a
+    moment, and what has ended and is not followed yet, is one part.
+    """
+    if not rows:
+        return []
+    busiest = busiest_slot(list(rows.values()), interval)
+    moments = {}
+    for key, (begin, end) in rows.items():
+        moments.setdefault((begin - busiest - 1) % interval, []).append((key, 1))
+        moments.setdefault((end - busiest - 1) % interval, []).append((key, -1))
+    parts, homes = {key: [key] for key in rows}, {key: key for key in rows}
+    waiting, free = None, 0
+    for moment in sorted(moments):
+        near = [key for key, _ in moments[moment]] + ([] if waiting is None else [waiting])
+        for key in near:
+            unite(parts, homes, key, near[0])
+        free -= sum([change for _, change in moments[moment]])
+        waiting = near[0] if free > 0 else None
+    return list(parts.values())
+
+
+def busiest_slot(lives, interval):
+    """A slot in which most values are alive."""
+    counts = [len([1 for begin, end in lives if is_over(begin, end, interval, slot)]) for slot in range(interval)]
+    return counts.index(max(counts))
+
+
+def is_over(begin, end, interval, slot):
+    """Whether the last ticks of a life, of which there are 1 to T behind its whole turns, lie over a slot."""
+    return (slot - begin) % interval <= (end - begin - 1) % interval
+
+
+def unite(parts, homes, one, other):
+    """Make one part of those of two keys."""
+    old, new = homes[one], homes[other]
+    if old != new:
+        moved = parts.pop(old)
+        parts[new].extend(moved)
+        for key in moved:
+            homes[key] = new

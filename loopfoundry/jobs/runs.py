@@ -133,11 +133,17 @@ def wrong_rows(job, interval, starts):
     """For each reading and each writer by which it goes wrong: the least rounds, and the first thing of that run."""
     rows = []
     for operation in job.operations:
-        operands = job.operands(operation)
-        for index, (source, distance) in enumerate(operands):
+        for index, (source, distance) in enumerate(job.operands(operation)):
             if starts[source] + job.ticks(source) - interval * distance > starts[operation]:
                 rows.append((1, (starts[operation], operation, 0, index, None)))
-        for index, load in enumerate(job.loaded(operation), start=len(operands)):
+    return rows + wrong_load_rows(job, interval, starts)
+
+
+def wrong_load_rows(job, interval, starts):
+    """These rows of all loads."""
+    rows = []
+    for operation in job.operations:
+        for index, load in enumerate(job.loaded(operation), start=len(job.operands(operation))):
             for number, rounds, told in wrong_loads(job, interval, starts, operation, load):
                 tick = starts[operation] + interval * number
                 rows.append((rounds, (tick, operation, number, index, told)))

@@ -1,0 +1,1 @@
+"""Worlds, which are bodies with machines: their order, and their sums."""
