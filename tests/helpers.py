@@ -2,6 +2,8 @@
 
 from random import Random
 
+from loopfoundry.code.kernels import Kernel
+from loopfoundry.few.moves import Moves
 from loopfoundry.few.points import Points
 from loopfoundry.files.lives import Lives
 from loopfoundry.jobs.jobs import Job
@@ -27,6 +29,8 @@ CHIP_LINES = (
     "pattern put 1 1 mem 0 : = _",
 )
 CHIP = Machine.from_lines(*CHIP_LINES)
+HOLD = Body(("set", "a", ("op", "h")))
+KEEP = Machine.from_lines("pattern h 1 1 : h ( )")
 
 
 def nested(kind, depth):
@@ -47,6 +51,8 @@ def odd_values():
     others = [None, True, False, [], [0, 1], {}, {"a": 1}, {0: "a"}, {None: ()}, {(): []}, [[]], {"a": {"b": ["c"]}}]
     objects = [DOT, CHIP, Meetings((1, 0), (1, 0)), [DOT], {"a": CHIP}, Lives(1, {"q": (0, 1)}), Points(1, {"q": (0,)})]
     objects.append(Job(DOT, CHIP, {"mul": "mulld", "mul.1": "get", "sum": "add"}))
+    objects.append(Moves(Points(3, {"q": (0, 2)}), {"q": 0}, {("q", 1): 1}))
+    objects.append(Kernel(Job(HOLD, KEEP, {"a": "h"}), 1, 1, 0, ((("op", "a", 0, 0, (), ()),),)))
     deep = [nested(kind, 40) for kind in (tuple, list, dict)]
     deep.append(("op", "f", nested(tuple, 38)))
     return numbers + texts + tuples + others + objects + deep

@@ -162,6 +162,28 @@ def plan_kernel(random, more=2, **sizes):
     return kernel_of(job, interval, starts, registers, file_paper(lives, registers)[1])
 
 
+def operand_kernel(random, **sizes):
+    """A kernel whose operands are right, by starts that perhaps do not fit stores and loads; None if none was drawn."""
+    from loopfoundry.code.making import kernel_of
+    from loopfoundry.files.lives import Lives
+    from loopfoundry.files.turning import file_paper, least_registers
+    from tests.helpers import fitting_starts, operand_arcs
+
+    job, interval, rows = draw_job(random, **sizes), random.randint(1, 6), {}
+    starts = fitting_starts(random, job, interval, operand_arcs(job))
+    if starts is None or max(starts.values()) // interval > 40:
+        return None
+    for text in job.valued:
+        begin = starts[text] + job.ticks(text)
+        ends = [starts[reader] + interval * gap for reader in job.operations for source, gap in job.operands(reader) if source == text]
+        rows[text] = (begin, max([begin, *ends]) + 1)
+    lives = Lives(interval, rows)
+    registers = max(1, least_registers(lives))
+    if registers > 24:
+        return None
+    return kernel_of(job, interval, starts, registers, file_paper(lives, registers)[1])
+
+
 def relief_kernel(random, **sizes):
     """A right kernel made of a plan and of a relief with moves, and the relief; None if none was drawn."""
     from loopfoundry.code.making import kernel_with

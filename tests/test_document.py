@@ -4,8 +4,10 @@ import doctest
 import unittest
 
 from loopfoundry.base import numbers
+from loopfoundry.code import checks, kernels
+from loopfoundry.code import making as code_making
 from loopfoundry.covers import covers, orders
-from loopfoundry.few import points
+from loopfoundry.few import making, moves, papers, points
 from loopfoundry.files import lives, turning
 from loopfoundry.jobs import jobs, rewrites, runs
 from loopfoundry.jobs import orders as job_orders
@@ -13,6 +15,9 @@ from loopfoundry.machine import machines, shapes
 from loopfoundry.memory import flows, meetings
 from loopfoundry.search import frontier, ways
 from loopfoundry.source import bodies, trees
+from loopfoundry.wide import bodies as wide_bodies
+from loopfoundry.wide import free, peels
+from loopfoundry.worlds import order, sums
 
 NUMBERS = """
 >>> [slot_of(-3, 4), rounded_up(-1, 6, 4), rounded_up(3, 0, 3), is_name("sum"), is_name("A")]
@@ -109,13 +114,68 @@ LIVES = """
 100000000000000000003
 """
 
-POINTS = """
+FEW = """
 >>> TIGHT, THREE = Points(3, {"a": (0, 1, 2), "b": (2, 3)}), Points(3, {"a": (0, 3), "b": (1, 4), "c": (2, 5)})
->>> TIGHT.gaps
-(('a', 2),)
+>>> [TIGHT.gaps, [least_moves(TIGHT, registers) for registers in (1, 2, 3)], [least_moves(THREE, registers) for registers in (1, 2, 3, 4)], fewest_registers(THREE, most=5)]
+[(('a', 2),), [None, 2, 0], [None, 6, 4, 0], 3]
+>>> moves = Moves(TIGHT, {"a": 0}, {("a", 2): 1})
+>>> [moves.stays, moves.area, len(moves), moves.kept("a", 2).stays]
+[{'a:0': (0, 2), 'a:2': (2, 3), 'b:0': (2, 4)}, {'a': (1, 2)}, 2, {'a:0': (0, 3), 'b:0': (2, 4)}]
+>>> is_relief_paper(TIGHT, 2, ("relief", moves.saves, moves.reloads, {"a:0": 0, "a:2": 1, "b:0": 0}, 1, {"a": 0}))
+True
+>>> is_relief_paper(TIGHT, 2, ("tree", ("split", ("gap", "a", 2), ("apart", "registers", ("a:0",)), ("moves",))), most=1)
+True
 >>> READ = Points(3, {"a": (0, 3, 5), "b": (1,)}, reload=(1, (("u", 0),)), spare={("u", 2): 1})
->>> [READ.rows["a"], READ.spare, Points(3, {"a": (0, 5), "b": (1,)}, reload=READ.reload, spare=READ.spare) == READ.without_last("a")]
-[(0, 3, 5), {('u', 2): 1}, False]
+>>> [least_moves(READ, 2), least_moves(Points(3, {"a": (0, 5), "b": (1,)}, reload=READ.reload, spare=READ.spare), 2), sure_lives(READ, {("gap", "a", 2): True})]
+[2, None, ({'a:0': (0, 1), 'a:1': (3, 4), 'a:2': (5, 6), 'b:0': (1, 2)}, {'a': (2, 4)})]
+"""
+
+KERNELS = """
+>>> JOB = Job(DOT, CHIP, {"mul": "mul", "mul.0": "get", "mul.1": "get", "sum": "add"})
+>>> KERNEL = kernel_of(JOB, 2, {"mul": 3, "mul.0": 0, "mul.1": 1, "sum": 6}, 4, {"mul": 0, "mul.0": 0, "mul.1": 1, "sum": 0})
+>>> KERNEL.rows
+((('op', 'mul.0', 0, 0, (), (0,)), ('op', 'sum', 3, 1, (0, 1), ())), (('op', 'mul', 1, 3, (3, 0), ()), ('op', 'mul.1', 0, 1, (), (0,))))
+>>> [str(KERNEL), KERNEL.asked, KERNEL.guards(2, 1), list(KERNEL.timeline(1)), KERNEL.duration(2), does_right(KERNEL), enough_rounds(KERNEL)]
+['kernel of 2 rows, 4 stages, 4 registers, 0 cells', {('alu', 0): 1, ('alu', 1): 1, ('mem', 0): 1, ('mem', 1): 1}, (0, 1), [(0, 'mul.0', 0), (1, 'mul.1', 0), (3, 'mul', 0), (6, 'sum', 0)], 9, True, 14]
+>>> HURRY = kernel_of(Job(PAIRS, CHIP, {"put": "put", "put.0": "f", "put.0.0": "get"}), 3, {"put": 3, "put.0": 2, "put.0.0": 0}, 1, {"put.0": 0, "put.0.0": 0})
+>>> [long_readings(HURRY), least_wrong_run(HURRY), findings(HURRY, 4, "put.0.0", 3), findings(HURRY, 4, "put.0.0", 2)]
+[{('put', 0): ('put.0', 0), ('put.0', 0): ('put.0.0', 0)}, (4, (9, 'put.0.0', 3, 0, None)), (None,), (('put', 0),)]
+>>> FAR = Body(("store", "put", "x", 1, 0, ("op", "f", ("load", "x", 2, -10 ** 20))))
+>>> least_wrong_run(kernel_of(Job(FAR, CHIP, HURRY.job.cover), 3, HURRY.starts, 1, {"put.0": 0, "put.0.0": 0}))[0] == 10 ** 20
+True
+>>> KEEP = Job(Body(("set", "a", ("load", "y", 1, 0)), ("store", "put", "z", 1, 0, ("op", "f", ("at", "a", 2)))), CHIP, {"a": "get", "put": "put", "put.0": "f"})
+>>> SMALL = kernel_with(KEEP, 4, {"a": 0, "put": 1, "put.0": 0}, 1, ("relief", {"a": 3}, {("a", 1): 6}, {"a:0": 0, "a:1": 0, "put.0:0": 0}, 1, {"a": 0}))
+>>> SMALL.rows
+((('op', 'a', 0, 0, (), (0,)), ('op', 'put.0', 0, 0, (0,), ())), (('op', 'put', 0, None, (0,), (0,)),), (('reload', 0, 0),), (('save', 0, 0),))
+>>> [long_readings(SMALL), does_right(SMALL), enough_rounds(SMALL), SMALL.played(2, lambda operator, values: values, lambda name, round: round, lambda array, cell: cell)]
+[{('put', 0): ('put.0', 0), ('put.0', 0): ('a', 2)}, True, 13, ({'a': (0, 1), 'put.0': ((-2,), (-1,))}, {('z', 0): (-2,), ('z', 1): (-1,)})]
+"""
+
+WIDE = """
+>>> ALL = Machine.from_lines("pattern all 3 1 : = f ( @ )")
+>>> DOUBLE = Body(("store", "put", "x", 2, 0, ("op", "f", ("load", "x", 1, 0))))
+>>> double, pairs = Job(DOUBLE, ALL, {"put": "all"}), Job(PAIRS, ALL, {"put": "all"})
+>>> [unrolled(DOUBLE, 2).stores, unrolled(DOT, 2)["bb"], peeled(DOUBLE, 3).stores]
+[(('aa', 'x', 4, 0), ('ab', 'x', 4, 2)), ('set', 'bb', ('op', 'add', ('at', 'ba', 0), ('at', 'ab', 0))), (('put', 'x', 2, 6),)]
+>>> [wide_arcs(double), wide_arcs(double, copies=2), [free_interval(double, copies=u) for u in (1, 2, 3, 4)]]
+[(('put', 'put', 3, 1),), (('aa', 'aa', 3, 1), ('ab', 'aa', 3, 1)), [3, 3, 6, 3]]
+>>> [ratio(double, first=2), lasting_ratio(double), ratio_paper(double), is_peel_paper(double, 2, ("peel", 2, {"put": 0}, ("put",)))]
+[(3, 2), (0, 1), ('endless', ('put',)), True]
+>>> [peel_paper(pairs, 1)[:2], ratio_paper(pairs)[:3], meeting_kind((1, 0), (2, -4)), meeting_kind((2, 1), (4, 0))]
+[('peel', 3), ('peel', 3, None), 'growing', 'none']
+"""
+
+WORLDS = """
+>>> BACK = Body(("set", "y", ("op", "f", ("load", "a", 1, 0), ("at", "z", 1))), ("store", "s", "a", 1, 0, ("at", "z", 2)), ("set", "z", ("op", "g", ("load", "a", 1, 0))))
+>>> QUICK = Machine.from_lines("unit p 1", "pattern f 1 1 p 0 : f ( @ _ )", "pattern g 1 1 : g ( @ )", "pattern put 1 1 p 0 : = _")
+>>> SLOW = Machine.from_lines("unit p 1", "pattern f 1 1 p 0 : f ( @ _ )", "pattern g 1 1 : g ( @ )", "pattern put 2 1 p 0 : = _")
+>>> [least_interval(BACK, QUICK), least_interval(BACK, SLOW), is_no_harder(BACK, QUICK, BACK, SLOW), is_no_harder(BACK, SLOW, BACK, QUICK), is_no_harder(BACK.without("y"), QUICK, BACK, QUICK)]
+[3, 2, False, False, True]
+>>> tree = ("pattern", "y", (("f", ("slot", "y", (("unit", "p", 1),))), ("h", ("cost",))))
+>>> [trimmed(BACK, QUICK, 2, tree), opened(2, tree)[2][0][1], joined(2, ("cost",), ("cost",)), units_used(BACK, QUICK)]
+[('pattern', 'y', (('f', ('slot', 'y', (('unit', 'p', 1),))),)), ('slot', 'y', (('unit', 'p', 1), ('unit', 'p', 0))), ('cost',), ('p',)]
+>>> [are_side_by_side(BACK, DOT), are_side_by_side(DOT, PAIRS), together(DOT, PAIRS).names]
+[False, True, ('mul', 'sum', 'put')]
 """
 
 SETUP = """
@@ -164,8 +224,17 @@ class DocumentTest(unittest.TestCase):
     def test_lives(self):
         self.check(LIVES, lives, turning)
 
-    def test_points(self):
-        self.check(POINTS, points)
+    def test_few_registers(self):
+        self.check(FEW, points, making, moves, papers)
+
+    def test_kernels(self):
+        self.check(KERNELS, jobs, kernels, code_making, checks)
+
+    def test_wide_bodies(self):
+        self.check(WIDE, jobs, wide_bodies, free, peels)
+
+    def test_worlds(self):
+        self.check(WORLDS, ways, frontier, order, sums)
 
 
 if __name__ == "__main__":

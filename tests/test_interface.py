@@ -127,6 +127,63 @@ FUNCTIONS = {
         "held": "(lives, registers, bases, tick)",
     },
     "few.making": {"points_of": "(job, interval, starts)"},
+    "few.papers": {
+        "relief_paper": "(points, registers, *, cells=24, most=None)",
+        "is_relief_paper": "(points, registers, value, *, cells=24, most=None)",
+        "least_moves": "(points, registers, *, cells=24)",
+        "fewest_registers": "(points, *, cells=24, most=None)",
+        "least_paper": "(points, registers, *, cells=24)",
+        "is_least_paper": "(points, registers, value, *, cells=24)",
+        "sure_lives": "(points, told)",
+    },
+    "code.making": {
+        "kernel_of": "(job, interval, starts, registers, bases)",
+        "kernel_with": "(job, interval, starts, registers, relief)",
+    },
+    "code.checks": {
+        "findings": "(kernel, rounds, operation, number)",
+        "wrong_findings": "(kernel, rounds)",
+        "is_wrong_finding": "(kernel, rounds, value)",
+        "long_readings": "(kernel)",
+        "enough_rounds": "(kernel)",
+        "does_right": "(kernel)",
+        "least_wrong_run": "(kernel)",
+    },
+    "wide.bodies": {
+        "peeled": "(body, rounds)",
+        "unrolled": "(body, copies)",
+        "peeled_job": "(job, rounds)",
+        "unrolled_job": "(job, copies)",
+        "copied_starts": "(job, interval, starts, copies)",
+    },
+    "wide.free": {
+        "meeting_kind": "(store, load)",
+        "wide_arcs": "(job, *, copies=1, first=0)",
+        "lasting_arcs": "(job, *, copies=1)",
+        "free_paper": "(job, interval, *, copies=1, first=0)",
+        "is_free_paper": "(job, interval, value, *, copies=1, first=0)",
+        "free_interval": "(job, *, copies=1, first=0)",
+        "ratio": "(job, *, first=0)",
+        "lasting_ratio": "(job)",
+    },
+    "wide.peels": {
+        "peel_paper": "(job, interval, *, copies=1)",
+        "is_peel_paper": "(job, interval, value, *, copies=1)",
+        "ratio_paper": "(job)",
+        "is_ratio_paper": "(job, value)",
+    },
+    "worlds.order": {
+        "is_no_harder": "(body, machine, other_body, other_machine)",
+        "left_to": "(body, row)",
+        "trimmed": "(body, machine, interval, tree)",
+    },
+    "worlds.sums": {
+        "are_side_by_side": "(body, value)",
+        "together": "(body, other)",
+        "units_used": "(body, machine)",
+        "opened": "(interval, tree)",
+        "joined": "(interval, tree, other)",
+    },
 }
 CONSTANTS = {
     "base.numbers": {"MAX_INTERVAL": 32, "MAX_TICKS": 4},
@@ -137,6 +194,9 @@ CONSTANTS = {
     "files.lives": {"MAX_KEYS": 48},
     "files.turning": {"MAX_FILE": 24},
     "few.points": {"MAX_VALUES": 24, "MAX_POINTS": 48},
+    "few.papers": {"MAX_GAPS": 6},
+    "code.instructions": {"MAX_STAGES": 64, "MAX_MOVES": 24},
+    "wide.free": {"MAX_WIDE": 32},
 }
 METHODS = {
     ("source.bodies", "Body"): {
@@ -233,6 +293,30 @@ METHODS = {
         "__eq__": "(self, other)",
         "__str__": "(self)",
     },
+    ("few.moves", "Moves"): {
+        "__init__": "(self, points, saves, reloads)",
+        "kept": "(self, key, j)",
+        "__contains__": "(self, x)",
+        "__len__": "(self)",
+        "__eq__": "(self, other)",
+        "__str__": "(self)",
+    },
+    ("code.kernels", "Kernel"): {
+        "__init__": "(self, job, interval, registers, cells, rows)",
+        "of": "(job, interval, registers, cells, *rows)",
+        "guards": "(self, rounds, number)",
+        "timeline": "(self, rounds)",
+        "duration": "(self, rounds)",
+        "played": "(self, rounds, meaning, first, contents)",
+        "later": "(self, ticks)",
+        "rolled": "(self, *, registers=0, cells=0)",
+        "__getitem__": "(self, at)",
+        "__contains__": "(self, x)",
+        "__len__": "(self)",
+        "__iter__": "(self)",
+        "__eq__": "(self, other)",
+        "__str__": "(self)",
+    },
 }
 PROPERTIES = {
     ("source.bodies", "Body"): "statements names scalars arrays operations loads stores reads",
@@ -241,6 +325,8 @@ PROPERTIES = {
     ("jobs.jobs", "Job"): "body machine cover operations arcs cost valued",
     ("files.lives", "Lives"): "interval rows names most total",
     ("few.points", "Points"): "interval rows save reload spare gaps",
+    ("few.moves", "Moves"): "points saves reloads gone stays area asked fits",
+    ("code.kernels", "Kernel"): "job interval registers cells rows starts stages moves asked",
 }
 
 

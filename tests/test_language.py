@@ -369,6 +369,28 @@ class ClassesTest(unittest.TestCase):
             }
             self.assertFalse(methods & stored, (path, node.name))
 
+    def test_what_tells_assigns_nothing(self):
+        for path, node in functions():
+            if node.name in ("__eq__", "__str__", "__len__", "__repr__"):
+                for part in ast.walk(node):
+                    self.assertNotIsInstance(part, (ast.Assign, ast.AugAssign, ast.Delete), (path, node.name))
+
+    def test_properties_and_methods_have_different_names(self):
+        properties, methods = set(), set()
+        for _, row in walk(ast.ClassDef):
+            for node in row.body:
+                if isinstance(node, ast.FunctionDef):
+                    kinds = [decorator.id for decorator in node.decorator_list]
+                    (properties if "property" in kinds else methods).add(node.name)
+        self.assertFalse(properties & methods)
+
+    def test_no_function_is_unused(self):
+        used = {node.id for _, node in walk(ast.Name)} | {node.attr for _, node in walk(ast.Attribute)}
+        text = (ROOT / "tests" / "test_interface.py").read_text(encoding="utf-8")
+        for path, node in functions():
+            if not node.name.startswith("__") and node.name not in used:
+                self.assertIn(f'"{node.name}"', text.replace(" ", '" "'), (path, node.name))
+
     def test_generators(self):
         generators = []
         for path, node in functions():
