@@ -1,9 +1,10 @@
 """Moves: saves of values, and reloads for the points behind gaps."""
 
 from loopfoundry.base.numbers import is_whole
+from loopfoundry.covers.boards import sorted_dict
 from loopfoundry.errors import InvalidArgument, InvalidLives
 from loopfoundry.few.points import Points
-from loopfoundry.few.stays import area_of, ascending, asks_of, stays_of
+from loopfoundry.few.stays import area_of, asks_of, stays_of
 
 
 def check_points(points):
@@ -55,7 +56,7 @@ def asked_by_moves(points, saves, reloads):
     for item, start in rows:
         for at in asks_of(points, item, start):
             counts[at] = counts.get(at, 0) + 1
-    return ascending(counts)
+    return sorted_dict(counts)
 
 
 def early_reloads(points, reloads, key):
@@ -72,8 +73,8 @@ class Moves:
         if not is_moves(points, saves, reloads):
             raise InvalidArgument("no moves for these points")
         self._points = points
-        self._saves = ascending(saves)
-        self._reloads = ascending(reloads)
+        self._saves = sorted_dict(saves)
+        self._reloads = sorted_dict(reloads)
         self._gone = tuple(self._reloads)
         self._all = (*self._saves, *self._gone)
         stays, area = {}, {}
@@ -83,7 +84,7 @@ class Moves:
             stays.update(stays_of(key, points[key], early, late))
             if early:
                 area[key] = area_of(points, key, max(list(early)), early[max(list(early))], late)
-        self._stays = ascending(stays)
+        self._stays = sorted_dict(stays)
         self._area = area
         self._asked = asked_by_moves(points, saves, reloads)
         self._fits = all([many <= points.spare.get(at, 0) for at, many in self._asked.items()])

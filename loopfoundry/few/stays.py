@@ -5,6 +5,8 @@ each reload writes; `late` is how many ticks behind the first point the save sta
 from items to what is told of them: False for kept, at once, in time; True for gone, late, early.
 """
 
+from loopfoundry.covers.boards import sorted_dict
+
 
 def stays_of(key, ticks, early, late):
     """A dict from the keys of the stays of a value with these points to their lives."""
@@ -21,11 +23,6 @@ def area_of(points, key, gap, early, late):
     begin = ticks[0] + late + points.save[0]
     start = ticks[gap] - early - points.reload[0]
     return (begin, start + 1) if start >= begin else None
-
-
-def ascending(rows):
-    """The dict with its keys ascending."""
-    return {key: rows[key] for key in sorted(rows)}
 
 
 def told_gone(points, told, key):
@@ -56,7 +53,7 @@ def sure_stays(points, told):
     rows = {}
     for key in points:
         rows.update(sure_stays_of(points, told, key))
-    return ascending(rows)
+    return sorted_dict(rows)
 
 
 def sure_area(points, told):

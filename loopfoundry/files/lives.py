@@ -42,6 +42,17 @@ def count_across(life, interval, moment):
     return (moment - 1 - begin) // interval + (end - 1 - moment) // interval + 1
 
 
+def all_across(rows, interval, moment):
+    """How many values of some lives are alive on both sides of a moment."""
+    return sum([count_across(life, interval, moment) for life in rows])
+
+
+def full_moments(rows, interval):
+    """The moments, one for each slot, at which as many values of some lives are across as are ever alive at once."""
+    most = most_alive(rows, interval)
+    return [moment for moment in range(interval) if all_across(rows, interval, moment) == most]
+
+
 def most_alive(rows, interval):
     """The greatest number of values of some lives that are alive in one tick."""
     return max([sum([count_alive(life, interval, tick) for life in rows]) for tick in range(interval)])
@@ -91,12 +102,13 @@ class Lives:
     def across(self, moment, *names):
         """How many values are across a moment; with names only those of these keys."""
         check_integer(moment)
-        return sum([count_across(life, self._interval, moment) for life in self._counted(names)])
+        return all_across(self._counted(names), self._interval, moment)
 
     def is_full(self, moment, *names):
         """Whether these keys are full at a moment; without names, whether all are."""
         check_integer(moment)
-        return is_full_at(self._counted(names), self._interval, moment)
+        rows = self._counted(names)
+        return all_across(rows, self._interval, moment) == most_alive(rows, self._interval)
 
     def most_of(self, *names):
         """The greatest number of values of these keys that are alive in one tick."""
@@ -108,7 +120,8 @@ class Lives:
         others = [self._rows[key] for key in self._names if key not in names]
         if not some or not others:
             return False
-        return all([self._is_one_full(some, others, moment) for moment in range(self._interval)])
+        full, others_full = full_moments(some, self._interval), full_moments(others, self._interval)
+        return all([moment in full or moment in others_full for moment in range(self._interval)])
 
     def each_alive(self, tick):
         """The ascending pairs (key, round) of the values that are alive in a tick."""
@@ -173,15 +186,6 @@ class Lives:
     def _counted(self, names):
         """The lives of these keys, or all lives without names."""
         return self._lives_of(names) if names else list(self._rows.values())
-
-    def _is_one_full(self, some, others, moment):
-        """Whether some lives or the others are full at a moment."""
-        return is_full_at(some, self._interval, moment) or is_full_at(others, self._interval, moment)
-
-
-def is_full_at(rows, interval, moment):
-    """Whether as many values of some lives are across a moment as are ever alive in one tick."""
-    return sum([count_across(life, interval, moment) for life in rows]) == most_alive(rows, interval)
 
 
 def lives_of(job, interval, starts):
