@@ -268,6 +268,51 @@ class EdgesTest(unittest.TestCase):
             self.assertEqual(findings(kernel, 40, "a", k), finds["a", k])
         self.assertEqual(list(wrong_findings(kernel, 12)), second_wrong(kernel, 12))
 
+    def test_a_value_that_is_carried_behind_the_last_round(self):
+        # In each pass the value goes through the cell into the next register, which the operation writes over
+        # as long as it is done; a late reading finds what its last round wrote, many passes before.
+        body = Body(("set", "a", ("op", "h")), ("set", "b", ("op", "k", ("at", "a", 0))))
+        job = Job(body, ONES, {"a": "h", "b": "k"})
+        for registers in (2, 3, 5):
+            for cells in (1, 2, 4):
+                for stage in (1, 7, 20, 40):
+                    rows = (
+                        (("op", "a", 0, 0, (), ()),),
+                        (("op", "b", stage, registers - 1 if registers > 2 else 1, (0,), ()),),
+                        (("save", 0, 0),),
+                        (("reload", 0, 1),),
+                    )
+                    kernel = Kernel(job, 4, registers, cells, rows)
+                    rounds = stage + 9
+                    finds = SecondMachine(kernel, rounds, early=90).finds
+                    for k in range(rounds):
+                        self.assertEqual(findings(kernel, rounds, "b", k), finds["b", k])
+                    far = findings(kernel, 10**29, "b", 10**29 - 1)[0]
+                    one = finds["b", rounds - 1][0]
+                    self.assertEqual(far, one and (one[0], one[1] + 10**29 - rounds))
+                    self.assertEqual(list(wrong_findings(kernel, rounds)), second_wrong(kernel, rounds))
+
+    def test_two_stores_of_one_cell(self):
+        body = Body(("store", "s", "x", 2, 0, ("op", "h")), ("store", "v", "x", 2, 1, ("op", "h")), ("set", "y", ("load", "x", 2, 0)))
+        wide = Machine.from_lines("pattern put 1 1 : = h ( )", "pattern late 3 1 : = h ( )", "pattern get 1 1 : @")
+        random, both = seeded(864), 0
+        for _ in range(120):
+            job = Job(body, wide, {"s": random.choice(("put", "late")), "v": random.choice(("put", "late")), "y": "get"})
+            rows = [[] for _ in range(random.randint(1, 4))]
+            for text, many in (("s", 2), ("v", 2), ("y", 0)):
+                stage = random.randint(0, 2)
+                offset = -2 * stage + (random.choice((0, 1, 2, -2)) if many else 0)
+                one = ("op", text, stage, None if many else 0, (), (offset,))
+                row = random.choice(rows)
+                row.insert(random.randint(0, len(row)), one)
+            kernel = Kernel(job, len(rows), 1, 0, tuple(map(tuple, rows)))
+            machine = SecondMachine(kernel, 6)
+            for (text, k), told in machine.finds.items():
+                self.assertEqual(findings(kernel, 6, text, k), told)
+            self.assertEqual(list(wrong_findings(kernel, 6)), second_wrong(kernel, 6))
+            both += len(machine.memory) < 12
+        self.assertGreater(both, 40)
+
     def test_a_value_that_is_moved_many_times(self):
         body = Body(("set", "a", ("op", "h")), ("set", "b", ("op", "k", ("at", "a", 3))))
         job = Job(body, ONES, {"a": "h", "b": "k"})
@@ -350,6 +395,31 @@ class LateOperandsTest(unittest.TestCase):
                 self.assertEqual(second_wrong(kernel, least[0])[0], least[1])
                 self.assertLessEqual(least[0], enough_rounds(kernel))
         self.assertGreater(late, 30)
+
+
+    def test_operands_and_loads_that_go_wrong_late(self):
+        random, told = seeded(865), {"operand": 0, "load": 0, "both": 0}
+        for _ in range(1500):
+            offset = -random.randint(0, 14)
+            body = Body(
+                ("set", "a", ("op", "h")),
+                ("set", "b", ("op", "k", ("op", "k", ("at", "a", 3)))),
+                ("store", "s", "x", 1, 0, ("op", "k", ("load", "x", 2, offset))),
+            )
+            job = Job(body, ONES, {"a": "h", "b": "k", "b.0": "k", "s": "put", "s.0": "k", "s.0.0": "get"})
+            registers, interval, more = random.randint(4, 20), random.randint(1, 3), random.randint(0, 12)
+            starts = {"a": 0, "b.0": 1, "b": 2, "s.0.0": more, "s.0": more + 2, "s": more + 3 + random.randint(0, 9)}
+            bases = {text: random.randrange(registers) for text in job.valued}
+            kernel = kernel_of(job, interval, starts, registers, bases)
+            least = least_wrong_run(kernel)
+            if least is None or least[0] == 1:
+                continue
+            rows = second_wrong(kernel, least[0] + 12)
+            kinds = {row[1] == "s.0.0" for row in rows}
+            told["both" if len(kinds) == 2 else "load" if True in kinds else "operand"] += 1
+            self.assertEqual(second_wrong(kernel, least[0] - 1), [])
+            self.assertEqual(second_wrong(kernel, least[0])[0], least[1])
+        self.assertGreater(min(told.values()), 8)
 
 
 class WrongArgumentsTest(unittest.TestCase):

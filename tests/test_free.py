@@ -299,6 +299,8 @@ class WrongArgumentsTest(unittest.TestCase):
                 refused(self, InvalidArgument, meeting_kind, value, (1, 0))
             if not is_place(value):
                 refused(self, InvalidArgument, meeting_kind, (1, 0), value)
+        refused(self, InvalidArgument, meeting_kind, (1, 0), (1, 10**30))
+        refused(self, InvalidArgument, meeting_kind, (1, -(10**30)), (1, 0))
         refuses_number(self, 1001, free_paper, JOB, 1001)
         refuses_number(self, 17, free_interval, JOB, copies=17)
         self.assertEqual(free_paper(JOB, 1000)[0], "starts")

@@ -262,6 +262,8 @@ class EdgesTest(unittest.TestCase):
     def test_equal_kernels(self):
         others = [Kernel(JOB, 2, 5, 0, ROWS), Kernel(JOB, 2, 4, 1, ROWS), KERNEL.later(1), KERNEL.rolled(registers=1), MOVING]
         others += [Kernel(JOB, 2, 4, 0, (ROWS[0][::-1], ROWS[1])), JOB, None, ROWS]
+        other = Machine.of({"alu": 2, "mem": 1}, CHIP.patterns, save=CHIP.save, reload=CHIP.reload)
+        others.append(Kernel(Job(DOT, other, JOB.cover), 2, 4, 0, ROWS))
         for value in others:
             self.assertNotEqual(KERNEL, value)
 
@@ -295,7 +297,8 @@ class WrongArgumentsTest(unittest.TestCase):
             refused(self, InvalidKernel, Kernel, JOB, 2, 4, 0, (first, (*second, value)))
             refused(self, InvalidKernel, Kernel.of, JOB, 2, 4, 0, first, second, value)
         bad = [(first,), (first, second, ()), (first, first), (first, (*second, first[0])), (first, second[:1]), list(ROWS)]
-        bad += [([*first], second), (first + (("save", 0, 0),), second)]
+        bad += [([*first], second), (first + (("save", 0, 0),), second), (first + (("opp", *first[0][1:]),), second)]
+        bad += [(first + (("save", *first[0][1:]),), second), (first + (("op", 0, 0),), second)]
         for value in bad:
             refused(self, InvalidKernel, Kernel, JOB, 2, 4, 0, value)
 

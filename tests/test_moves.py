@@ -154,7 +154,9 @@ class EdgesTest(unittest.TestCase):
         moves = Moves(WIDE, {"a": 0}, {("a", 1): 1})
         spare = Points(4, WIDE.rows, save=WIDE.save, reload=WIDE.reload, spare={("u", 0): 1})
         others = [Moves(WIDE, {}, {}), Moves(spare, {"a": 0}, {("a", 1): 1}), Moves(WIDE, {"a": 0}, {("a", 2): 5})]
-        others += [Moves(WIDE, {"a": 1}, {("a", 2): 5}), Moves(WIDE, {"a": 0}, {("a", 2): 4}), WIDE, None, 2]
+        late = Moves(WIDE, {"a": 1}, {("a", 2): 5})
+        self.assertNotEqual(late, Moves(WIDE, {"a": 0}, {("a", 2): 5}))
+        others += [late, Moves(WIDE, {"a": 0}, {("a", 2): 4}), WIDE, None, 2]
         for value in others:
             self.assertNotEqual(moves, value)
 

@@ -23,6 +23,17 @@ def simple(step, offset, load_step, load_offset=0):
     return Job(Body(("store", "put", "x", step, offset, ("op", "f", ("load", "x", load_step, load_offset)))), ALL, {"put": "all"})
 
 
+def lagging(random):
+    """A job with rings through a load that stands ahead of a store, not lasting, and through a flow, perhaps lasting."""
+    step, load_step = random.choice(((1, 2), (2, 1), (3, 2), (1, -1), (1, 0), (2, -3)))
+    spread = random.choice((9, 10**20))
+    last = ("load", "x", random.choice((step, step, load_step)), random.choice((random.randint(-9, 9), random.randint(-spread, spread))))
+    tree = ("op", "f", ("load", "x", load_step, random.randint(-spread, spread)), last)
+    body = Body(("set", "a", tree), ("store", "s", "x", step, random.randint(-9, 9), ("op", "h")))
+    machine = Machine.from_lines("pattern f 2 1 : f ( @ _ )", "pattern get 4 1 : @", "pattern put 1 1 : = _", "pattern h 1 1 : h ( )")
+    return Job(body, machine, {"a": "f", "a.1": "get", "s": "put", "s.0": "h"})
+
+
 def mixed(random):
     """A job with a ring of lasting arcs, and a store and a load that are not lasting."""
     ring = ("op", "k", ("op", "k", ("at", "a", random.randint(1, 3))))
@@ -65,6 +76,16 @@ class EachNumberOfRoundsTest(unittest.TestCase):
         for _ in range(150):
             told.add(self.check_peel(mixed(random), random.randint(1, 6), random.randint(1, 4)))
         self.assertGreater(len(told), 5)
+
+    def test_loads_ahead_of_stores(self):
+        random, told = seeded(898), {}
+        for _ in range(600):
+            job = lagging(random)
+            rounds = self.check_peel(job, random.randint(1, 3), random.randint(1, 3))
+            self.check_ratio(job)
+            kind = "far" if rounds > 10**9 else min(rounds, 1)
+            told[kind] = told.get(kind, 0) + 1
+        self.assertGreater(min(told[k] for k in (0, 1, "far")), 5)
 
     def check_ratio(self, job):
         paper = ratio_paper(job)
@@ -132,7 +153,9 @@ class FarTest(unittest.TestCase):
         # The store of round i and the load of round j meet where step * i + offset is load_step * j.
         random = seeded(896)
         for _ in range(200):
-            step, load_step = random.sample(range(1, 5), 2)
+            step, load_step = random.choice((1, 2, 3, 4)), random.choice((-3, -2, -1, 0, 1, 2, 3, 4, 5))
+            if step == load_step:
+                continue
             offset = random.choice((1, -1)) * random.randint(10**28, 10**29)
             job, copies, interval = simple(step, offset, load_step), random.randint(1, 16), random.randint(1, 4)
             paper = peel_paper(job, interval, copies=copies)
@@ -148,6 +171,9 @@ class FarTest(unittest.TestCase):
                     self.assertIs(is_peel_paper(job, interval, ("peel", bent, *paper[2:]), copies=copies), False)
             told = ratio_paper(job)
             self.assertIs(is_ratio_paper(job, told), True)
+            if told[0] == "peel":
+                self.assertEqual(ratio(job, first=told[1]), (0, 1))
+                self.assertTrue(told[1] == 0 or ratio(job, first=told[1] - 1) != (0, 1))
 
     def test_one_copy_far_away(self):
         far = 10**29
@@ -214,6 +240,8 @@ class EdgesTest(unittest.TestCase):
         never = simple(1, 0, 1, -1)
         self.assertIs(is_peel_paper(never, 2, ("never", ("put",))), True)
         self.assertIs(is_peel_paper(never, 3, ("never", ("put",))), False)
+        self.assertIs(is_peel_paper(never, 2, ("never", ("put",), 0)), False)
+        self.assertIs(is_peel_paper(never, 2, ("nevers", ("put",))), False)
         self.assertIs(is_peel_paper(JOB, 2, ("never", ("put",))), False)
         bent = [("peel", 1, *good[2:]), ("peel", 3, *good[2:]), ("peel", True, *good[2:]), ("peel", 2, {"put": 0}, None)]
         bent += [("peel", 0, {"put": 0}, None), ("peel", 0, {"put": 0}, ("put",)), good[:3], (*good, 0), list(good), ("peels", *good[1:])]
@@ -247,10 +275,30 @@ class EdgesTest(unittest.TestCase):
             if type(value) is not int or value != 3:
                 self.assertIs(is_ratio_paper(PAIRS_JOB, ("peel", value, *good[2:])), False)
         self.assertIs(is_ratio_paper(JOB, ("endless", ("put",))), True)
+        self.assertIs(is_ratio_paper(JOB, ("endless", ("put",), 0)), False)
+        self.assertIs(is_ratio_paper(PAIRS_JOB, ("peels", *good[1:])), False)
         lasting = simple(1, 0, 1, -1)
         self.assertIs(is_ratio_paper(lasting, ("peel", 0, ("put",), {"put": 9}, None)), True)
         self.assertIs(is_ratio_paper(lasting, ("peel", 0, None, {"put": 9}, None)), False)
         self.assertIs(is_ratio_paper(lasting, ("endless", ("put",))), False)
+
+    def test_endless_rings_with_a_lasting_ratio(self):
+        body = Body(("set", "a", ("op", "k", ("at", "a", 1))), ("store", "s", "x", 2, 0, ("op", "f", ("load", "x", 1, 0), ("at", "a", 0))))
+        job = Job(body, ONES, {"a": "k", "s": "put"})
+        self.assertEqual((lasting_ratio(job), Fraction(*ratio(job, first=100)) > 0), ((1, 1), True))
+        self.assertIs(is_ratio_paper(job, ("endless", ("s",))), False)
+        self.assertEqual(ratio_paper(job)[0:3:2], ("peel", ("a",)))
+
+    def test_critical_rings(self):
+        told = {True: 0, False: 0}
+        for _, job in small_jobs(899, 500, limit=7):
+            paper, (p, q) = ratio_paper(job), lasting_ratio(job)
+            if p:
+                for ring in all_rings(lasting_arcs(job))[:20]:
+                    right = asked(lasting_arcs(job), ring, p, q) == 0
+                    told[right] += 1
+                    self.assertIs(is_ratio_paper(job, (*paper[:2], ring, *paper[3:])), right)
+        self.assertGreater(min(told.values()), 10)
 
     def test_heights_by_another_hand(self):
         random, told = seeded(897), {True: 0, False: 0}

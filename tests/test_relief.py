@@ -81,6 +81,35 @@ class AllChoicesTest(unittest.TestCase):
                 kinds[self.check(points, needs, registers, cells, most)] += 1
         self.assertGreater(min(kinds.values()), 300)
 
+    def test_papers_for_many_gaps(self):
+        # Few cells and few units: the trees split saves and reloads, and tell of the save area.
+        random, kinds, words = seeded(814), {"relief": 0, "tree": 0}, set()
+        for _ in range(350):
+            interval = random.choice((1, 2, 2, 3, 4))
+            begins = [random.randint(0, 4) for _ in range(random.choice((2, 3, 3, 4, 6)))]
+            rows = {f"k{k}": (begin, begin + random.randint(2, 9)) for k, begin in enumerate(begins)}
+            if len(rows) < 4:
+                rows = {key: (*row, row[-1] + random.randint(1, 6)) for key, row in rows.items()}
+            table = lambda: (1, (("u", random.randint(0, 3)),) if random.random() < 0.5 else ())
+            units = {("u", slot): random.randint(0, 3) for slot in range(interval)}
+            points = Points(interval, rows, save=table(), reload=table(), spare=units)
+            if len(points.gaps) > 6:
+                continue
+            needs = needs_of(points) if len(points.gaps) < 5 else None
+            for registers in range(2, 6):
+                cells = random.randint(1, 5)
+                paper = relief_paper(points, registers, cells=cells)
+                kinds[paper[0]] += 1
+                self.assertIs(is_relief_paper(points, registers, paper, cells=cells), True)
+                if paper[0] == "tree":
+                    text = str(paper)
+                    words.update(word for word in ("'apart', 'cells'", "'alive', 'cells'", "'save'", "'reload'", "'unit'") if word in text)
+                    self.assertTrue(SecondJudge(points, registers, cells, None).is_right(paper[1], {}))
+                if needs is not None:
+                    self.assertIs(paper[0] == "relief", any(row[1] <= registers and row[2] <= cells for row in needs))
+        self.assertGreater(min(kinds.values()), 60)
+        self.assertEqual(len(words), 5)
+
     def test_files_by_force(self):
         random = seeded(811)
         for _ in range(60):
@@ -241,6 +270,25 @@ class TreesByOtherHandsTest(unittest.TestCase):
         early = {("gap", "a", 2): True, ("reload", "a", 2): True}
         self.assertTrue(judge(far, SecondJudge(far, 1, 24, None), early, [], both))
 
+    def test_order_of_a_first_gap(self):
+        points = Points(9, {"a": (0, 5)}, save=(2, ()), reload=(3, ()))
+        told = {("gap", "a", 1): True, ("save", "a"): True}
+        self.assertIs(self.plain(points, told, ("order", "a", 1)), True)
+        for leaf in (("order", "a", True), ("order", "a", 1, 0), ("order", "a"), ("order", "a", 2), ("order", "b", 1), ("orders", "a", 1)):
+            self.assertIs(self.plain(points, told, leaf), False)
+
+    def plain(self, points, told, leaf):
+        from loopfoundry.few.judging import is_right_tree
+
+        return is_right_tree(points, (1, 24, None), leaf, told)
+
+    def test_units_of_any_kind(self):
+        points = Points(3, {"a": (0, 9)}, save=(1, (("u", 0),)))
+        told = {("gap", "a", 1): True, ("save", "a"): False}
+        self.assertIs(self.plain(points, told, ("unit", "u", 0)), True)
+        for leaf in (("unit", [], 0), ("unit", {}, 0), ("unit", None, 0), ("unit", ("u",), 0), ("unit", "u", False), ("unit", "u", None)):
+            self.assertIs(self.plain(points, told, leaf), False)
+
     def test_seven_gaps(self):
         self.assertEqual(len(SEVEN.gaps), 7)
         for call in (relief_paper, least_moves, least_paper):
@@ -363,6 +411,31 @@ class EdgesTest(unittest.TestCase):
 
 
 class BentReliefsTest(unittest.TestCase):
+    def test_moves_that_do_not_fit(self):
+        for spare, right in (({("u", 0): 1}, True), ({("u", 0): 0}, False), ({("u", 1): 3}, False), (None, False)):
+            points = Points(3, {"a": (0, 9)}, save=(1, (("u", 0),)), spare=spare)
+            relief = ("relief", {"a": 0}, {("a", 1): 8}, {"a:0": 0, "a:1": 0}, 3, {"a": 0})
+            self.assertIs(is_relief_paper(points, 2, relief), right)
+
+    def test_least_papers(self):
+        random, told = seeded(824), {True: 0, False: 0}
+        while min(told.values()) < 25:
+            points, registers = draw_points(random), random.randint(1, 3)
+            paper = least_paper(points, registers)
+            if paper[0] == "none":
+                for bent in ((*paper, 0), ("nones", paper[1]), ("least", paper[1], None), ("tree", paper[1]), ("none",)):
+                    self.assertIs(is_least_paper(points, registers, bent), False)
+                continue
+            _, relief, tree = paper
+            many = len(relief[1]) + len(relief[2])
+            for bent in ((*paper, 0), ("none", *paper[1:]), ("lease", *paper[1:]), ("least", relief), ("least", tree, relief)):
+                self.assertIs(is_least_paper(points, registers, bent), False)
+            for fewer in range(2, many + 1):
+                other = relief_paper(points, registers, most=many - fewer)[1]
+                right = SecondJudge(points, registers, 24, many - 1).is_right(other, {})
+                told[right] += 1
+                self.assertIs(is_least_paper(points, registers, ("least", relief, other)), right)
+
     def test_bent_entries(self):
         _, saves, reloads, bases, cells, places = RELIEF
         bent = [("relief", {}, reloads, bases, cells, places), ("relief", saves, {}, bases, cells, places)]

@@ -215,6 +215,17 @@ class OrderTest(unittest.TestCase):
         self.assertIs(is_no_harder(one, k, two, k), False)
         self.assertIs(is_no_harder(one, k, one, k), True)
 
+    def test_other_trees(self):
+        machine = Machine({})
+        trees = [("op", "f", ("op", "h")), ("op", "g", ("op", "h")), ("op", "f", ("load", "x", 1, 0)), ("op", "f", ("at", "a", 1))]
+        trees += [("op", "f"), ("op", "f", ("op", "h"), ("op", "h")), ("load", "x", 1, 0), ("op", "f", ("op", "f", ("op", "h")))]
+        trees += [("op", "f", ("at", "b", 1)), ("op", "f", ("op", "h", ("op", "h")))]
+        for one, other in product(trees, repeat=2):
+            worlds = [Body(("set", "a", tree), ("set", "b", ("op", "h"))) for tree in (one, other)]
+            self.assertIs(is_no_harder(worlds[0], machine, worlds[1], machine), one == other, (one, other))
+            stores = [Body(("set", "a", ("op", "h")), ("set", "b", ("op", "h")), ("store", "s", "y", 1, 0, tree)) for tree in (one, other)]
+            self.assertIs(is_no_harder(stores[0], machine, stores[1], machine), one == other, (one, other))
+
     def test_flows_and_anti(self):
         put = Machine.from_lines("pattern put 1 1 : = @")
 
@@ -292,6 +303,7 @@ class FormTest(unittest.TestCase):
         bad += [("circuit", ["y"]), ("circuit", ("y.3",)), ("circuit", "y"), ("pattern", "y.2", ()), ("pattern", "q", ()), ("pattern", "y", [])]
         bad += [("pattern", "y", (("a", cost), ("a", cost))), ("pattern", "y", (("b", cost), ("a", cost))), ("pattern", "y", (("A", cost),))]
         bad += [("pattern", "y", tuple((name, cost) for name in "abcdefghi")), ("pattern", "y", (("a", cost, 0),)), ("pattern", "y", (["a", cost],))]
+        bad += [("circuits", ("y",)), ("slots", "q", (cost,)), ("units", "q", 0), ("patterns", "y", ())]
         bad += [("slot", "q", ()), ("slot", "q", (cost,) * 3), ("slot", "q", [cost]), ("slot", "y.0.0.0.0.0", (cost,)), ("slot", "q", cost)]
         bad += [("cost", 0), ["cost"], ("costs",), ("slot", "q", (cost, ("unit", "q", 2))), ("pattern", "y", (("h", ("pattern", "q", ())),))]
         for tree in good:

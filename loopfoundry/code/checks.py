@@ -171,7 +171,7 @@ def does_right(kernel):
         return False
     job = kernel.job
     arcs = memory_arcs(parts_of(job.body, job.machine, job.cover), flows(job.body))
-    return all([is_kept(arc, kernel.interval, kernel.starts) for arc in arcs if arc[0] != arc[1] or arc[3] != 0])
+    return all([is_kept(arc, kernel.interval, kernel.starts) for arc in arcs])
 
 
 def least_wrong_run(kernel):
