@@ -217,7 +217,7 @@ class EdgesTest(unittest.TestCase):
         rows = list(wrong_findings(HURRY, 300))
         self.assertEqual(rows, second_wrong(HURRY, 300))
         refuses_number(self, 301, lambda: next(wrong_findings(HURRY, 301)))
-        refuses_number(self, 0, findings, HURRY, 0, "put", 0)
+        refuses_number(self, 5, findings, HURRY, 0, "put", 5)
 
     def test_two_equal_trees(self):
         # Each is read for the other one: all values and cells are right, the findings are not.
@@ -357,10 +357,16 @@ class EdgesTest(unittest.TestCase):
                 self.assertEqual(list(wrong_findings(kernel, 5)), second_wrong(kernel, 5))
                 self.assertIs(is_wrong_finding(kernel, 1, least[1]), True)
                 self.assertIs(is_wrong_finding(kernel, 1, (*least[1][:4], cell + 1)), False)
+                self.assertIs(is_wrong_finding(kernel, 1, (*least[1][:4], True)), False)
 
     def test_wrong_findings_that_are_bent(self):
         rounds, finding = least_wrong_run(HURRY)
         self.assertIs(is_wrong_finding(HURRY, rounds, finding), True)
+        for word in HURRY:
+            for k in range(rounds):
+                for place, one in enumerate(findings(HURRY, rounds, word, k)):
+                    value = (HURRY.starts[word] + 3 * k, word, k, place, one)
+                    self.assertIs(is_wrong_finding(HURRY, rounds, value), value == finding)
         tick, text, number, index, _ = finding
         bent = [(tick + 1, *finding[1:]), (tick, "put", *finding[2:]), (tick, text, number + 1, index, None), (tick, text, number, 1, None)]
         bent += [(tick, text, number, -1, None), (*finding[:4], ("put", 2)), (*finding[:4], ("put", True)), (*finding[:4], 0), finding[:4]]

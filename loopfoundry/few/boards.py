@@ -2,6 +2,7 @@
 
 from loopfoundry.few.stays import sure_area_of, sure_stays_of
 from loopfoundry.files.circles import parts_of_file
+from loopfoundry.files.lives import alive_counts
 
 
 class Board:
@@ -59,8 +60,4 @@ def items_at(key, place):
 
 def rows_with_counts(rows, interval):
     """The pair of some lives and of how many of their values are alive in each slot."""
-    counts = [sum([(end - begin) // interval for begin, end in rows.values()])] * interval
-    for begin, end in rows.values():
-        for step in range((end - begin) % interval):
-            counts[(begin + step) % interval] += 1
-    return (rows, counts)
+    return (rows, alive_counts(list(rows.values()), interval))

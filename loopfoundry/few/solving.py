@@ -8,6 +8,7 @@ A *leaf* is found as a pair (tree, used): a tree that is right by what is told, 
 from loopfoundry.few.judging import alive_in, is_out_of_order, moves_told
 from loopfoundry.few.stays import asks_of, start_of
 from loopfoundry.files.circles import parts_of_file
+from loopfoundry.files.lives import alive_counts
 
 
 def search(board, limits, told):
@@ -20,6 +21,7 @@ def search(board, limits, told):
     if leaf is None:
         return (everything, None, None)
     item = [part for part in leaf[1] if part not in told][0]
+    # What must be told for an item is used where it is split; so leaves need not tell of it.
     trees, used = [], over(told, item)
     for worth in (False, True):
         relief, tree, needs = search(board, limits, {**told, item: worth})
@@ -89,13 +91,8 @@ def leaf_of_units(board, told):
             rows = asking.setdefault(at, [])
             rows.append(item)
             if len(rows) > points.spare.get(at, 0):
-                return (("unit", *at), closed(told, rows))
+                return (("unit", *at), rows)
     return None
-
-
-def closed(told, items):
-    """The items, each once, with all that must be told for them."""
-    return list({part: True for item in items for part in [*over(told, item), item]})
 
 
 def leaf_of_registers(board, limits, told):
@@ -106,11 +103,11 @@ def leaf_of_registers(board, limits, told):
     items = [item for item in told if told[item] == (item[0] != "gap")]
     if top > limits[0]:
         slot = counts.index(top)
-        return (("alive", "registers", slot), closed(told, needed_stays(board, told, items, slot, top - limits[0])))
+        return (("alive", "registers", slot), needed_stays(board, told, items, slot, top - limits[0]))
     parts = board.stay_parts(told) if top == limits[0] else []
     if len(parts) < 2:
         return None
-    return (("apart", "registers", tuple(sorted(parts[0]))), closed(told, items))
+    return (("apart", "registers", tuple(sorted(parts[0]))), items)
 
 
 def needed_stays(board, told, items, slot, above):
@@ -130,7 +127,7 @@ def needed_stays(board, told, items, slot, above):
 def leaf_of_cells(board, limits, told):
     """The leaf of too many values in the save area."""
     rows = board.area_rows(told)
-    counts = [alive_in(rows, board.turn, slot) for slot in range(board.turn)] if rows else [0]
+    counts = alive_counts(list(rows.values()), board.turn)
     top = max(counts)
     # By the sure area a move that is not told is late or early.
     items = [item for item in told if told[item] == (item[0] == "gap")]
@@ -146,9 +143,8 @@ def leaf_of_cells(board, limits, told):
 def needed_area(board, limits, told, items, slot):
     """The items without which no more values than there are cells are sure in a slot."""
     left = {item: told[item] for item in items}
-    for item in sorted(items, key=lambda part: part[0] == "gap"):
+    for item in items:
         fewer = {part: left[part] for part in left if part != item}
-        is_free = not [part for part in fewer if item in over(fewer, part) or item in over(left, part)]
-        if is_free and alive_in(board.area_rows(fewer), board.turn, slot) > limits[1]:
+        if alive_in(board.area_rows(fewer), board.turn, slot) > limits[1]:
             left = fewer
     return list(left)

@@ -8,6 +8,8 @@ two circles at no cost; one circle alone is a file.
 All is told here in half ticks: moments are even, and the middle of a tick is odd.
 """
 
+from loopfoundry.files.lives import alive_counts
+
 # A register more than are busy in the middle of some tick: nothing stands in it there.
 IDLE = ""
 
@@ -108,8 +110,8 @@ def parts_of_file(rows, interval):
     """
     if not rows:
         return []
-    busiest = busiest_slot(list(rows.values()), interval)
-    moments = {}
+    counts, moments = alive_counts(list(rows.values()), interval), {}
+    busiest = counts.index(max(counts))
     for key, (begin, end) in rows.items():
         moments.setdefault((begin - busiest - 1) % interval, []).append((key, 1))
         moments.setdefault((end - busiest - 1) % interval, []).append((key, -1))
@@ -122,17 +124,6 @@ def parts_of_file(rows, interval):
         free -= sum([change for _, change in moments[moment]])
         waiting = near[0] if free > 0 else None
     return list(parts.values())
-
-
-def busiest_slot(lives, interval):
-    """A slot in which most values are alive."""
-    counts = [len([1 for begin, end in lives if is_over(begin, end, interval, slot)]) for slot in range(interval)]
-    return counts.index(max(counts))
-
-
-def is_over(begin, end, interval, slot):
-    """Whether the last ticks of a life, of which there are 1 to T behind its whole turns, lie over a slot."""
-    return (slot - begin) % interval <= (end - begin - 1) % interval
 
 
 def unite(parts, homes, one, other):

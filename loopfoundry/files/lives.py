@@ -53,9 +53,18 @@ def full_moments(rows, interval):
     return [moment for moment in range(interval) if all_across(rows, interval, moment) == most]
 
 
+def alive_counts(rows, interval):
+    """How many values of some lives are alive in each slot."""
+    counts = [sum([(end - begin) // interval for begin, end in rows])] * interval
+    for begin, end in rows:
+        for step in range((end - begin) % interval):
+            counts[(begin + step) % interval] += 1
+    return counts
+
+
 def most_alive(rows, interval):
     """The greatest number of values of some lives that are alive in one tick."""
-    return max([sum([count_alive(life, interval, tick) for life in rows]) for tick in range(interval)])
+    return max(alive_counts(rows, interval))
 
 
 class Lives:
