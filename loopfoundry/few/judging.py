@@ -4,7 +4,7 @@
 """
 
 from loopfoundry.base.numbers import is_between, is_whole
-from loopfoundry.few.stays import asks_of, start_of, sure_area, sure_stays, told_gone
+from loopfoundry.few.stays import asks_of, start_of, sure_area, sure_stays, told_gone, with_told
 from loopfoundry.files.lives import Lives, count_alive
 from loopfoundry.files.turning import is_file_paper
 
@@ -54,9 +54,9 @@ def is_right_tree(points, limits, tree, told):
     item = tree[1]
     if item in told or not can_be_told(points, told, item):
         return False
-    if not is_right_tree(points, limits, tree[2], {**told, item: False}):
+    if not is_right_tree(points, limits, tree[2], with_told(told, item, False)):
         return False
-    return is_right_tree(points, limits, tree[3], {**told, item: True})
+    return is_right_tree(points, limits, tree[3], with_told(told, item, True))
 
 
 def moves_told(points, told):

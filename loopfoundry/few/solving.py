@@ -6,7 +6,7 @@ A *leaf* is found as a pair (tree, used): a tree that is right by what is told, 
 """
 
 from loopfoundry.few.judging import alive_in, is_out_of_order, moves_told
-from loopfoundry.few.stays import asks_of, start_of
+from loopfoundry.few.stays import asks_of, start_of, with_told
 from loopfoundry.files.circles import parts_of_file
 from loopfoundry.files.lives import alive_counts
 
@@ -24,7 +24,7 @@ def search(board, limits, told):
     # What must be told for an item is used where it is split; so leaves need not tell of it.
     trees, used = [], over(told, item)
     for worth in (False, True):
-        relief, tree, needs = search(board, limits, {**told, item: worth})
+        relief, tree, needs = search(board, limits, with_told(told, item, worth))
         if relief is not None or item not in needs:
             return (relief, tree, needs)
         trees.append(tree)
@@ -40,7 +40,9 @@ def with_rest(board, told):
         if told.get(("gap", key, place), False):
             rest[("save", key)] = False
             rest[("reload", key, place)] = False
-    return {**rest, **told}
+    for item in told:
+        rest[item] = told[item]
+    return rest
 
 
 def over(told, item):

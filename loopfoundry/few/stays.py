@@ -25,6 +25,13 @@ def area_of(points, key, gap, early, late):
     return (begin, start + 1) if start >= begin else None
 
 
+def with_told(told, item, worth):
+    """What is told, and one item more."""
+    more = {part: told[part] for part in told}
+    more[item] = worth
+    return more
+
+
 def told_gone(points, told, key):
     """The ascending indices of the gaps of a value that are told gone."""
     return [place for text, place in points.gaps if text == key and told.get(("gap", key, place), False)]
