@@ -34,6 +34,13 @@ def small_jobs(number, many, limit=7, spread=4):
         yield random, draw_job(random, most=random.choice((2, 3)), levels=random.choice((2, 3)), limit=limit, spread=spread)
 
 
+def circle(names, distance):
+    """A job in which each of some operations reads the one before it, and the first one the last one of such a round."""
+    reads = [("at", names[-1], distance), *[("at", name, 0) for name in names[:-1]]]
+    rows = [("set", name, ("op", "k", read)) for name, read in zip(names, reads)]
+    return Job(Body(*rows), ONES, {name: "k" for name in names})
+
+
 class WideArcsTest(unittest.TestCase):
     def test_walked_rounds(self):
         memory = 0
@@ -162,6 +169,29 @@ class FreeIntervalsTest(unittest.TestCase):
                 fine = all(pair in pairs for pair in zip(back, back[1:] + back[:1])) and asked(arcs, back, interval, 1) > 0
                 self.assertIs(is_free_paper(job, interval, ("ring", back), copies=copies), fine)
         self.assertGreater(min(told.values()), 20)
+
+    def test_told_rings_in_their_order(self):
+        # Each one reads the one before it, and the first one the last one of an earlier round.
+        for names in (("a",), ("b", "a"), ("a", "c", "b"), ("d", "b", "a", "c"), ("e", "a", "d", "b", "c")):
+            for distance in (1, 2, 3):
+                job = circle(names, distance)
+                for copies in (1, 2, 3):
+                    free = -(-4 * len(names) * copies // distance)
+                    self.assertEqual(free_interval(job, copies=copies), free)
+                    for interval in {1, free - 1}:
+                        ring = free_paper(job, interval, copies=copies)[1]
+                        self.assert_turned(job, ring, copies)
+                        back = ("ring", ring[::-1])
+                        self.assertIs(is_free_paper(job, interval, back, copies=copies), len(set(ring)) < 3)
+
+    def assert_turned(self, job, ring, copies):
+        """The ring goes along the arcs, and is one of all rings of them in another one's place as its first."""
+        arcs = wide_arcs(job, copies=copies)
+        first = ring.index(min(ring))
+        self.assertIn(ring[first:] + ring[:first], all_rings(arcs))
+        pairs = [arc[:2] for arc in arcs]
+        for pair in zip(ring, ring[1:] + ring[:1]):
+            self.assertIn(pair, pairs)
 
     def test_starts_by_another_hand(self):
         told = {True: 0, False: 0}

@@ -10,7 +10,8 @@ from loopfoundry.source.bodies import Body
 from loopfoundry.wide.free import free_interval, free_paper, lasting_arcs, lasting_ratio, ratio, wide_arcs
 from loopfoundry.wide.peels import is_peel_paper, is_ratio_paper, peel_paper, ratio_paper
 from tests.helpers import PAIRS, odd_values, refused, refuses_number, seeded
-from tests.test_free import small_jobs
+from tests.test_free import ONES as PLAIN
+from tests.test_free import circle, small_jobs
 from tests.wide_helpers import all_rings, asked, do_fit
 
 ALL = Machine.from_lines("pattern all 3 1 : = f ( @ )")
@@ -41,6 +42,19 @@ def mixed(random):
     place = (step, random.randint(-9, 9))
     store = ("store", "s", "x", *place, ("op", "f", ("load", "x", load_step, random.randint(-9, 9)), ("at", "a", 0)))
     return Job(Body(("set", "a", ring), store), ONES, {"a": "k", "a.0": "k", "s": "put"})
+
+
+def through_memory(step, offset, load_step):
+    """A job with one ring, of four operations, through a load and a store."""
+    store = ("store", "s", "x", step, offset, ("op", "k", ("at", "b", 0)))
+    body = Body(("set", "a", ("load", "x", load_step, 0)), ("set", "b", ("op", "k", ("at", "a", 0))), store)
+    return Job(body, PLAIN, {"a": "get", "b": "k", "s": "put", "s.0": "k"})
+
+
+def from_first(ring, text):
+    """The same ring from this operation on."""
+    place = ring.index(text)
+    return ring[place:] + ring[:place]
 
 
 class EachNumberOfRoundsTest(unittest.TestCase):
@@ -299,6 +313,29 @@ class EdgesTest(unittest.TestCase):
                     told[right] += 1
                     self.assertIs(is_ratio_paper(job, (*paper[:2], ring, *paper[3:])), right)
         self.assertGreater(min(told.values()), 10)
+
+    def test_told_rings_in_their_order(self):
+        for names in (("b", "a"), ("a", "c", "b"), ("e", "a", "d", "b", "c")):
+            for distance in (1, 2, 3):
+                job = circle(names, distance)
+                kind, ring = never = peel_paper(job, -(-4 * len(names) // distance) - 1)
+                self.assertEqual((kind, from_first(ring, names[0])), ("never", names))
+                critical = ratio_paper(job)[2]
+                self.assertEqual(from_first(critical, names[0]), names)
+                self.assertIs(is_peel_paper(job, 1, never), True)
+                self.assertIs(is_peel_paper(job, 1, ("never", ring[::-1])), len(ring) < 3)
+
+    def test_told_rings_through_memory_in_their_order(self):
+        endless, early = through_memory(2, 0, 1), through_memory(1, -8, -1)
+        kind, ring = ratio_paper(endless)
+        self.assertEqual((kind, from_first(ring, "a")), ("endless", ("a", "b", "s.0", "s")))
+        self.assertIs(is_ratio_paper(endless, ("endless", ring[::-1])), False)
+        kind, rounds, critical, heights, before = ratio_paper(early)
+        self.assertEqual((kind, rounds, critical), ("peel", 4, None))
+        self.assertEqual(from_first(before, "a"), ("a", "b", "s.0", "s"))
+        self.assertIs(is_ratio_paper(early, (kind, rounds, critical, heights, before[::-1])), False)
+        for paper in (peel_paper(endless, 3), peel_paper(early, 3)):
+            self.assertEqual((paper[0], from_first(paper[3], "a")), ("peel", ("a", "b", "s.0", "s")))
 
     def test_heights_by_another_hand(self):
         random, told = seeded(897), {True: 0, False: 0}

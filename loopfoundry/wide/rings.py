@@ -39,7 +39,7 @@ def ring_behind(before, text):
     while not ring or text != first:
         ring.append(text)
         text = before[text]
-    return tuple(reversed(ring))
+    return tuple(reversed(list(ring)))
 
 
 def is_ring(arcs, value):
