@@ -42,6 +42,7 @@ LIBRARY = {
     "heapq": {"heappush", "heappop", "heapify", "heapreplace", "heappushpop"},
     "math": {"gcd", "lcm", "isqrt", "comb", "perm", "factorial"},
 }
+CHANGING = set("append clear extend insert pop remove reverse setdefault update sort add discard".split())
 PYTHON_NAMES = set(dir(builtins))
 
 
@@ -102,6 +103,94 @@ def is_reversed_range(node):
     if not isinstance(node, ast.Call) or len(node.args) != 1:
         return False
     return [getattr(getattr(row, "func", None), "id", None) for row in (node, node.args[0])] == ["reversed", "range"]
+
+
+def name_called(node):
+    """What a call calls: its bare name, or the name behind its last point."""
+    return node.func.id if isinstance(node.func, ast.Name) else getattr(node.func, "attr", "")
+
+
+def is_settled(node):
+    """Whether this is a literal, a comprehension of a list, or a call that makes a new list or dict."""
+    if isinstance(node, ast.Call):
+        return isinstance(node.func, ast.Name) and node.func.id in ("list", "dict", "sorted")
+    return isinstance(node, (ast.List, ast.Dict, ast.ListComp))
+
+
+def own_lists(function):
+    """The local variables of a function that it assigns nothing but lists and dicts that it makes itself."""
+    given = {}
+    for node in ast.walk(function):
+        if isinstance(node, ast.Assign):
+            for target in node.targets:
+                pairs = [(target, node.value)]
+                if isinstance(target, ast.Tuple) and isinstance(node.value, ast.Tuple):
+                    pairs = list(zip(target.elts, node.value.elts))
+                for one, value in pairs:
+                    for part in ast.walk(one):
+                        if isinstance(part, ast.Name) and isinstance(part.ctx, ast.Store):
+                            given.setdefault(part.id, []).append(part is one and is_settled(value))
+        elif isinstance(node, ast.For):
+            for part in ast.walk(node.target):
+                if isinstance(part, ast.Name):
+                    given.setdefault(part.id, []).append(False)
+    parameters = {part.arg for part in ast.walk(function.args) if isinstance(part, ast.arg)}
+    return {name for name, rows in given.items() if all(rows)} - parameters
+
+
+def name_of(node):
+    """The name that this is, or None."""
+    return node.id if isinstance(node, ast.Name) else None
+
+
+def changes_of(function):
+    """The rows in which a function changes what it did not make itself, or calls what it was passed or holds."""
+    own, rows = own_lists(function), []
+    passed = {part.arg for part in ast.walk(function.args) if isinstance(part, ast.arg)}
+    for node in ast.walk(function):
+        fine = True
+        if isinstance(node, (ast.Attribute, ast.Subscript)) and isinstance(node.ctx, (ast.Store, ast.Del)):
+            making = function.name == "__init__" and isinstance(node, ast.Attribute) and name_of(node.value) == "self"
+            fine = making or (isinstance(node, ast.Subscript) and name_of(node.value) in own)
+        elif isinstance(node, ast.AugAssign):
+            plain = isinstance(node.value, ast.Constant) and isinstance(node.value.value, int)
+            fine = plain and isinstance(node.target, ast.Name) and isinstance(node.op, (ast.Add, ast.Sub, ast.FloorDiv))
+        elif isinstance(node, ast.Call) and isinstance(node.func, ast.Attribute) and node.func.attr in CHANGING:
+            fine = node.func.attr not in ("sort", "add", "discard") and name_of(node.func.value) in own
+        elif isinstance(node, ast.Call):
+            fine = name_of(node.func) not in passed
+        elif isinstance(node, (ast.Yield, ast.YieldFrom, ast.Nonlocal)):
+            fine = False
+        if not fine:
+            rows.append(node.lineno)
+    return rows
+
+
+def by_names():
+    """A dict from the names of functions and methods to their (path, function); a class stands for its `__init__`."""
+    known = {}
+    for path, node in functions():
+        known.setdefault(node.name, []).append((path, node))
+    for path, node in walk(ast.ClassDef):
+        rows = [row for row in node.body if isinstance(row, ast.FunctionDef) and row.name == "__init__"]
+        known.setdefault(node.name, []).extend([(path, row) for row in rows])
+    return known
+
+
+BY_NAMES = by_names()
+
+
+def reached_from(path, function):
+    """The (path, function) of all that a function calls, through what it calls, too, and its own."""
+    waiting, seen = [(path, function)], {}
+    while waiting:
+        path, node = waiting.pop()
+        if id(node) not in seen:
+            seen[id(node)] = (path, node)
+            for part in ast.walk(node):
+                if isinstance(part, ast.Call):
+                    waiting.extend(BY_NAMES.get(name_called(part), []))
+    return list(seen.values())
 
 
 def is_docstring(node):
@@ -352,6 +441,47 @@ class ClassesTest(unittest.TestCase):
                 for part in ast.walk(rows[0]):
                     if isinstance(part, ast.Call):
                         self.assertIn(part.func.id, ("dict",), (path, node.name))
+
+    def test_operators_and_properties_change_nothing(self):
+        roots = [
+            (path, node) for path, node in functions()
+            if node.name in DUNDERS - {"__init__"} or "property" in [row.id for row in node.decorator_list]
+        ]
+        self.assertGreater(len(roots), 50)
+        for path, root in roots:
+            for at, node in reached_from(path, root):
+                self.assertFalse(changes_of(node), (path, root.name, at, node.name))
+
+    def test_what_lives_are_made_of_is_reached(self):
+        path = PACKAGE / "files" / "lives.py"
+        for root in [node for at, node in functions() if at == path and node.name in ("__add__", "__or__", "__and__")]:
+            names = [node.name for _, node in reached_from(path, root)]
+            self.assertLessEqual({"__init__", "is_rows", "is_key", "is_life", "alive_counts"}, set(names))
+
+    def test_what_changes_is_told(self):
+        rows = {
+            "def f(rows):\n    rows[0] = 1": [2],
+            "def f(many):\n    rows = [0] * many\n    rows[0] = 1": [3],
+            "def f(many):\n    rows = [0 for _ in many]\n    rows[0] = 1\n    rows.append(2)": [],
+            "def f(many):\n    rows = []\n    rows = many\n    rows.append(1)": [4],
+            "def f(rows):\n    for row in rows:\n        row.append(1)": [3],
+            "def f(row):\n    rows = [row]\n    rows[0][0] = 1\n    rows[0].append(1)": [3, 4],
+            "def f(rows):\n    at = {}\n    at[0] = 1\n    del at[0]\n    del rows[0]": [5],
+            "def f(self):\n    self.at = 1": [2],
+            "def __init__(self, other):\n    self.at = 1\n    other.at = 1\n    self.at.at = 1": [3, 4],
+            "def f(one):\n    at = 0\n    at += 1\n    at += one\n    at *= 2": [4, 5],
+            "def f(one):\n    rows = list(one)\n    rows.sort()\n    return one(rows)": [3, 4],
+        }
+        for text, wanted in rows.items():
+            self.assertEqual(sorted(changes_of(ast.parse(text).body[0])), wanted, text)
+
+    def test_what_is_reversed_is_written_there(self):
+        written = (ast.List, ast.Tuple, ast.ListComp)
+        for path, node in walk(ast.Call):
+            if isinstance(node.func, ast.Name) and node.func.id == "reversed":
+                over = node.args[0]
+                made = isinstance(over, ast.Call) and name_called(over) in ("list", "tuple", "sorted", "range")
+                self.assertTrue(made or isinstance(over, written), (path, node.lineno))
 
     def test_an_iterator_is_one_statement(self):
         for path, node in functions():

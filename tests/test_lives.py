@@ -3,8 +3,8 @@
 import unittest
 
 from loopfoundry.errors import InvalidArgument, InvalidJob, InvalidLives
-from loopfoundry.files.lives import Lives, lives_of
-from loopfoundry.files.turning import least_registers
+from loopfoundry.files.lives import Lives, alive_counts, lives_of
+from loopfoundry.files.turning import file_paper, is_file_paper, least_registers
 from loopfoundry.jobs.jobs import Job
 from loopfoundry.source.trees import path_of
 from tests.helpers import (
@@ -130,7 +130,106 @@ class CountedTest(unittest.TestCase):
             self.assertEqual(long.most, lives.most + more)
 
 
+def far_off(random, lives):
+    """The lives with each life moved and made longer by great multiples of the interval, and by how many values."""
+    rows, more = {}, {}
+    for key, (begin, end) in lives.rows.items():
+        away, more[key] = random.choice((-1, 1)) * random.randint(10**20, 10**25), random.randint(0, 10**22)
+        rows[key] = (begin + lives.interval * away, end + lives.interval * (away + more[key]))
+    return Lives(lives.interval, rows), more
+
+
+class CountsTest(unittest.TestCase):
+    def test_each_slot(self):
+        random = seeded(746)
+        for _ in range(200):
+            lives = draw_lives(random)
+            keys = list(lives)
+            counts = [len(second_alive(lives, slot, keys)) for slot in range(lives.interval)]
+            self.assertEqual(alive_counts(list(lives.rows.values()), lives.interval), counts)
+            long, more = far_off(random, lives)
+            great = [count + sum(more.values()) for count in counts]
+            self.assertEqual(alive_counts(list(long.rows.values()), lives.interval), great)
+            self.assertEqual([long.alive(tick) for tick in range(lives.interval)], great)
+            self.assertEqual(long.most, max(great))
+
+    def test_by_hand(self):
+        self.assertEqual(alive_counts([], 3), [0, 0, 0])
+        self.assertEqual(alive_counts([(0, 2), (1, 4)], 3), [2, 2, 1])
+        self.assertEqual(alive_counts([(-1, 1)], 4), [1, 0, 0, 1])
+        self.assertEqual(alive_counts([(5, 6)], 1), [1])
+        self.assertEqual(alive_counts([(0, 9)], 2), [5, 4])
+        self.assertEqual(alive_counts([(10**30 - 2, 10**30 - 1)], 32), [0] * 30 + [1, 0])
+
+    def test_counts_are_made_anew(self):
+        rows = [(0, 2), (1, 4)]
+        alive_counts(rows, 3).clear()
+        self.assertEqual((rows, alive_counts(rows, 3)), ([(0, 2), (1, 4)], [2, 2, 1]))
+
+    def test_far_off(self):
+        random = seeded(747)
+        told = {"alive": 0, "apart": 0, "bases": 0}
+        for _ in range(900):
+            lives = draw_lives(random, keys=4)
+            long, more = far_off(random, lives)
+            for _ in range(3):
+                some, moment = random.sample(list(lives), random.randint(0, len(lives))), random.randint(-9, 9)
+                known = sum(more[key] for key in some)
+                self.assertEqual(long.most_of(*some), lives.most_of(*some) + known)
+                self.assertIs(long.is_full(moment, *some), lives.is_full(moment, *some))
+                self.assertIs(long.is_apart(*some), lives.is_apart(*some))
+                if some:
+                    self.assertEqual(long.alive(moment, *some), lives.alive(moment, *some) + known)
+                    self.assertEqual(long.across(moment, *some), lives.across(moment, *some) + known)
+            self.assertEqual(least_registers(long), least_registers(lives) + sum(more.values()))
+            short = Lives(lives.interval, {
+                key: (begin, end - lives.interval * more[key]) for key, (begin, end) in long.rows.items()
+            })
+            for registers in range(lives.most + 2):
+                paper = file_paper(short, registers)
+                told[paper[0]] += 1
+                self.assertIs(is_file_paper(short, registers, paper), True)
+                if paper[0] == "alive":
+                    self.assertGreater(short.alive(paper[1]), registers)
+                    self.assertIs(is_file_paper(long, registers, paper), True)
+        self.assertGreater(min(told.values()), 9)
+
+
 class OperatorsTest(unittest.TestCase):
+    def test_far_off(self):
+        random = seeded(748)
+        for _ in range(150):
+            lives = draw_lives(random)
+            long, more = far_off(random, lives)
+            ticks = random.choice((-1, 1)) * random.randint(10**20, 10**26)
+            later = long + ticks
+            self.assertEqual(later.rows, {key: (begin + ticks, end + ticks) for key, (begin, end) in long.rows.items()})
+            self.assertEqual((later.interval, later.total), (lives.interval, long.total))
+            self.assertEqual(later.most, lives.most + sum(more.values()))
+            some = tuple(sorted(random.sample(list(lives), random.randint(0, len(lives)))))
+            left, others = long & some, long & tuple(key for key in lives if key not in some)
+            self.assertEqual(left.rows, {key: long[key] for key in some})
+            self.assertEqual(left.most, lives.most_of(*some) + sum(more[key] for key in some))
+            self.assertEqual((left | others, others | left), (long, long))
+            self.assertEqual(((left | others).most, (left | others).total), (long.most, left.total + others.total))
+            for tick in (0, 1, -7, 10**27, -(10**27)):
+                self.assertEqual(later.alive(tick + ticks), long.alive(tick))
+                self.assertEqual(left.alive(tick) + others.alive(tick), long.alive(tick))
+            for key in some:
+                self.assertEqual(later.most_of(key), long.most_of(key))
+                self.assertEqual(left.most_of(key), lives.most_of(key) + more[key])
+
+    def test_they_change_nothing(self):
+        one, other = Lives(3, {"b": (0, 2), "a": (FAR, 2 * FAR)}), Lives(3, {"c": (-1, 1)})
+        before = [(row.rows, row.names, row.most, row.total, row.interval) for row in (one, other)]
+        results = [one + 5, one | other, one & ("b",)]
+        for row in results:
+            row.rows.clear()
+        for call in (lambda: one + None, lambda: one | one, lambda: one & ("c",)):
+            refused(self, InvalidArgument, call)
+        self.assertEqual([(row.rows, row.names, row.most, row.total, row.interval) for row in (one, other)], before)
+        self.assertEqual(results, [one + 5, one | other, one & ("b",)])
+
     def test_later(self):
         random = seeded(743)
         for _ in range(60):

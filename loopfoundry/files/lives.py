@@ -55,10 +55,12 @@ def full_moments(rows, interval):
 
 def alive_counts(rows, interval):
     """How many values of some lives are alive in each slot."""
-    counts = [sum([(end - begin) // interval for begin, end in rows])] * interval
+    always = sum([(end - begin) // interval for begin, end in rows])
+    counts = [always for _ in range(interval)]
     for begin, end in rows:
         for step in range((end - begin) % interval):
-            counts[(begin + step) % interval] += 1
+            slot = (begin + step) % interval
+            counts[slot] = counts[slot] + 1
     return counts
 
 
